@@ -1,0 +1,1 @@
+"""Points kept in trees that split the plane."""

@@ -1,0 +1,200 @@
+"""Quarter trees: each node is a point that splits its part of the plane in four.
+
+A tree may be 500 levels deep, so nothing here calls itself, and no trees are compared with each other.
+The functions of the interface check their arguments; the others expect valid ones.
+"""
+
+from planesplits.checks import check_point, check_points, is_point
+from planesplits.errors import AlreadyThere, InvalidTree, NotThere
+from planesplits.points import part_of, y_key
+
+MOST_NODES = 500
+NO_ENDS = (None, None, None, None)
+# What is put on a pile in this order comes off it in the order of the numbers.
+LAST_PART_FIRST = (3, 2, 1, 0)
+
+
+def is_node(value):
+    """Return whether any object has the form of a node, whatever its parts are."""
+    if not isinstance(value, tuple) or len(value) != 2:
+        return False
+    return is_point(value[0]) and isinstance(value[1], tuple) and len(value[1]) == 4
+
+
+def narrowed(ends, split, part):
+    """Return the ends (x, y, x2, y2) of a part of what has other ends and is split at (x, y)."""
+    x, y, x2, y2 = ends
+    if part in (1, 3):
+        x = split[0]
+    else:
+        x2 = split[0]
+    if part in (2, 3):
+        y = split[1]
+    else:
+        y2 = split[1]
+    return (x, y, x2, y2)
+
+
+def is_between(key, low, high):
+    """Return whether a key lies strictly between two others, either of which can lack."""
+    return (low is None or key > low) and (high is None or key < high)
+
+
+def fits(point, ends):
+    """Return whether the keys of a point lie between keys that are ends of its part."""
+    x, y, x2, y2 = ends
+    return is_between(point, x, x2) and is_between(y_key(point), y, y2)
+
+
+def fault_of(value):
+    """Return the path of the first fault of any object as a quarter tree, None if there is none."""
+    many = 0
+    pile = [(value, (), NO_ENDS)]
+    while pile:
+        thing, path, ends = pile.pop()
+        if thing is None:
+            continue
+        many += 1
+        if many > MOST_NODES or not is_node(thing) or not fits(thing[0], ends):
+            return path
+        point, parts = thing
+        split = (point, y_key(point))
+        for part in LAST_PART_FIRST:
+            # Without None, paths are made for nodes alone, and not for their empty parts.
+            if parts[part] is not None:
+                pile.append((parts[part], path + (part,), narrowed(ends, split, part)))
+    return None
+
+
+def check_quarter(value):
+    """Raise InvalidTree for what is no quarter tree."""
+    path = fault_of(value)
+    if path is not None:
+        raise InvalidTree(path)
+
+
+def hang(points, below, number):
+    """Note the point with a number as a part of the one among those before it where its way ends."""
+    if number == 0:
+        return
+    at = 0
+    part = part_of(points[at], points[number])
+    while below[at][part] is not None:
+        at = below[at][part]
+        part = part_of(points[at], points[number])
+    below[at][part] = number
+
+
+def grown(points):
+    """Return the quarter tree that comes of inserting points in their order."""
+    below = []
+    for number in range(len(points)):
+        hang(points, below, number)
+        below.append([None, None, None, None])
+    trees = {None: None}
+    # The points of the parts of a point come after it, so from the last one on all parts are made.
+    for number in reversed(range(len(points))):
+        parts = [trees[part] for part in below[number]]
+        trees[number] = (points[number], tuple(parts))
+    return trees.get(0)
+
+
+def reading(tree):
+    """Return the list of the points of a tree in reading order."""
+    points = []
+    pile = [tree]
+    while pile:
+        node = pile.pop()
+        if node is not None:
+            points.append(node[0])
+            pile.extend(node[1][::-1])
+    return points
+
+
+def way_down(tree, point):
+    """Return the nodes above a point, the numbers of the parts that lead to it, and what is there."""
+    above = []
+    path = []
+    node = tree
+    while node is not None and node[0] != point:
+        part = part_of(node[0], point)
+        above.append(node)
+        path.append(part)
+        node = node[1][part]
+    return above, path, node
+
+
+def put_below(above, path, tree):
+    """Return the whole tree in which a tree stands below some nodes, at the end of a path."""
+    for (point, parts), part in reversed(list(zip(above, path))):
+        tree = (point, parts[:part] + (tree,) + parts[part + 1:])
+    return tree
+
+
+def level_counts(tree):
+    """Return the list of how many nodes have a path of each length."""
+    counts = []
+    row = [] if tree is None else [tree]
+    while row:
+        counts.append(len(row))
+        row = [part for node in row for part in node[1] if part is not None]
+    return counts
+
+
+def built(points):
+    """Return the quarter tree that comes of inserting points in their order."""
+    check_points(points)
+    return grown(points)
+
+
+def is_quarter(value):
+    """Return whether any object is a quarter tree."""
+    return fault_of(value) is None
+
+
+def inserted(tree, point):
+    """Return the tree with a point more, which may be the 501st."""
+    check_quarter(tree)
+    check_point(point)
+    above, path, node = way_down(tree, point)
+    if node is not None:
+        raise AlreadyThere(point)
+    return put_below(above, path, grown([point]))
+
+
+def removed(tree, point):
+    """Return the tree without a point, the part below it built anew in reading order."""
+    check_quarter(tree)
+    check_point(point)
+    above, path, node = way_down(tree, point)
+    if node is None:
+        raise NotThere(point)
+    return put_below(above, path, grown(reading(node)[1:]))
+
+
+def path_to(tree, point):
+    """Return the path of a point as a list."""
+    check_quarter(tree)
+    check_point(point)
+    above, path, node = way_down(tree, point)
+    if node is None:
+        raise NotThere(point)
+    return path
+
+
+def points_of(tree):
+    """Return the list of the points in reading order."""
+    check_quarter(tree)
+    return reading(tree)
+
+
+def levels(tree):
+    """Return the list of how many nodes have a path of each length, from 0 on."""
+    check_quarter(tree)
+    return level_counts(tree)
+
+
+def depth(tree):
+    """Return the number of levels, 0 for None."""
+    check_quarter(tree)
+    return len(level_counts(tree))

@@ -1,0 +1,113 @@
+"""Values for the tests: those that are something else than is wanted, and trees of known forms."""
+
+from planesplits import errors, points, quarters
+
+LEAF = (None, None, None, None)
+FAR = 10 ** 30
+FAR_END = 10 ** 31
+MANY_FIGURES = 10 ** 5000
+
+# What is neither a point, nor points, nor a rectangle, nor a tree, nor a number.
+NOTHING_WANTED = [
+    True, False, "", "(0, 0)", b"", b"ab", 1j, ..., NotImplemented, {}, {(0, 0): True}, {(0, 0)}, set(),
+    frozenset([(0, 0)]), range(2), range(4), bytearray(b"ab"), memoryview(b"ab"), iter(()), object(), int, len,
+    errors, errors.InvalidPoint, errors.InvalidPoint(3), points.quarter, quarters.built, slice(2),
+]
+
+NO_POINTS = NOTHING_WANTED + [
+    None, 0, 5, MANY_FIGURES, [], [0, 0], (), (0,), (0, 0, 0), (0, 0, 0, 0), ((0, 0),), ((0, 0), (0, 0)),
+    (True, 0), (0, True), (False, False), (None, 0), (0, None), ("0", 0), (0, "0"), (0, [0]), ([0], 0), ({}, 0),
+    (FAR + 1, 0), (0, FAR + 1), (-FAR - 1, 0), (0, -FAR - 1), (MANY_FIGURES, 0), (0, -MANY_FIGURES),
+    (0, 1j), ((0, 0), LEAF), {0: 0, 1: 0},
+]
+
+NO_RECTANGLES = NOTHING_WANTED + [
+    None, 0, 5, [], [0, 0, 1, 1], [None, None, None, None], (), (0, 0), (0, 0, 1), (0, 0, 1, 1, 1),
+    (None, None, None), (True, 0, 1, 1), (0, False, 1, 1), (0, 0, True, 1), (0, 0, 1, True), ("", 0, 1, 1),
+    (0, [], 1, 1), (0, 0, {}, 1), (0, 0, 1, b""), (1, 0, 0, 1), (0, 1, 1, 0), (1, None, 0, None),
+    (None, 1, None, 0), (FAR_END, 0, FAR_END - 1, 0), (-FAR_END - 1, 0, 1, 1), (0, -FAR_END - 1, 1, 1),
+    (0, 0, FAR_END + 1, 1), (0, 0, 1, FAR_END + 1), (FAR_END + 1, None, None, None),
+    (None, None, None, -FAR_END - 1), (0, 0, MANY_FIGURES, 1), ((0, 0), (1, 1)), (0, 0, 1, 1j),
+]
+
+# Tuples of the index and a value.
+NO_POINT_LISTS = [(-1, value) for value in NOTHING_WANTED] + [
+    (-1, None), (-1, 0), (-1, 7), (-1, [(k, 0) for k in range(501)]), (-1, tuple([(k, 0) for k in range(501)])),
+    (-1, [None] * 501), (-1, [(0, 0)] * 501), (0, (0, 0)), (0, [None]), (0, [[]]), (0, [[0, 0]]), (0, ([0, 0],)),
+    (0, [{}]), (0, [(0, 0, 0), (0, 0)]), (1, [(0, 0), (0, 0)]), (1, ((0, 0), (0, 0))), (1, [(0, 0), None, 5]),
+    (1, [(0, 0), (True, 0)]), (1, [(1, 0), (True, 0)]), (2, [(0, 0), (1, 1), (1, 1), (0, 0)]),
+    (2, [(0, 1), (1, 0), (0, 1)]), (1, [(0, 0), (0, FAR + 1), (0, 0)]), (2, [(0, 0), (1, 1), [2, 2], (1, 1)]),
+    (499, [(k, 0) for k in range(499)] + [(0, 0)]), (499, [(k, 0) for k in range(499)] + [[]]),
+]
+
+NO_AXES = NOTHING_WANTED + [None, -1, 2, 10 ** 40, -(10 ** 40), MANY_FIGURES, (), [0], (0,), (0, 0), "0", "x", b"0"]
+
+
+def node(point, *parts):
+    """Return a node with the parts in the order of their numbers; the others are None."""
+    return (point, (*parts, *LEAF[len(parts):]))
+
+
+TREE = node((5, 5), node((1, 2)), node((7, 2), None, node((8, 1)), node((6, 3))), None, node((9, 9), node((8, 8))))
+
+# Tuples of the path of the first fault and a value.
+NO_TREES = [((), value) for value in NOTHING_WANTED] + [
+    ((), 0), ((), 5), ((), MANY_FIGURES), ((), []), ((), ()), ((), (0, 0)), ((), (None, LEAF)),
+    ((), [(0, 0), LEAF]), ((), ((0, 0), list(LEAF))), ((), ([0, 0], LEAF)), ((), ((0, 0),)),
+    ((), ((0, 0), LEAF, LEAF)), ((), ((0, 0), None)), ((), ((0, 0), LEAF[1:])), ((), ((0, 0), LEAF + (None,))),
+    ((), ((0, 0), ())), ((), ((True, 0), LEAF)), ((), ((0, FAR + 1), LEAF)), ((), ((0, 0, 0), LEAF)),
+    ((), ((0, 0), None, None, None, None)), ((), ((0, 0), None, None)), ((), LEAF), ((), (LEAF, (0, 0))),
+    ((0,), node((0, 0), 0)), ((1,), node((0, 0), None, False)), ((2,), node((0, 0), None, None, [])),
+    ((3,), node((0, 0), None, None, None, ())), ((3,), node((0, 0), None, None, None, (1, 1))),
+    ((0,), node((0, 0), node((0, 0)))), ((3,), node((0, 0), None, None, None, node((0, 0)))),
+    ((0,), node((0, 0), node((1, 1)))), ((1,), node((0, 0), None, node((1, 1)))),
+    ((2,), node((0, 0), None, None, node((1, 1)))), ((3,), node((0, 0), None, None, None, node((1, -1)))),
+    ((0,), node((0, 0), node((0, 1)))), ((3,), node((0, 0), None, None, None, node((0, -1)))),
+    ((0,), node((0, 0), node((1, 0)))), ((1,), node((0, 0), None, node((1, 0)))),
+    ((2,), node((0, 0), None, None, node((0, 1)))),
+    ((1,), node((0, 0), node((-1, -1)), node((0, -1)), node((5, 5)))),
+    ((0,), node((0, 0), "", node((0, -1)), [])), ((1, 2), node((0, 0), None, node((3, -3), None, None, []), 5)),
+    ((3, 0), node((0, 0), None, None, None, node((3, 3), node((-1, -1))))),
+    ((3, 0), node((0, 0), None, None, None, node((3, 3), node((2, -1))))),
+    ((3, 0), node((0, 0), None, None, None, node((3, 3), node((-1, 2))))),
+    ((3, 0), node((0, 0), None, None, None, node((3, 3), node((0, 0))))),
+    ((0, 3), node((0, 0), node((-3, -3), None, None, None, node((1, -1))))),
+    ((0, 3), node((0, 0), node((-3, -3), None, None, None, node((-1, 1))))),
+    ((3, 0, 3), node((0, 0), None, None, None, node((5, 5), node((2, 2), None, None, None, node((5, 5)))))),
+    ((3, 0, 0), node((0, 0), None, None, None, node((5, 5), node((2, 2), node((0, 0)))))),
+    ((3, 1), node((0, 0), None, None, None, node((3, 3), None, ((4, 1), LEAF[1:])))),
+    ((3, 1), node((0, 0), None, None, None, node((3, 3), None, ((4, True), LEAF)))),
+    ((0,), node((0, 0), node((-1, -1))[:1], node((-1, -1)))),
+]
+
+
+def line(many, step_x, step_y):
+    """Return points in a line."""
+    return [(k * step_x, k * step_y) for k in range(many)]
+
+
+def stairs(many, step_x, step_y):
+    """Return points that go by steps along the axes in turn."""
+    return [((k + 1) // 2 * step_x, k // 2 * step_y) for k in range(many)]
+
+
+def chain(places):
+    """Return the nested tuples of nodes for tuples (point, part), its part of the node before it."""
+    tree = None
+    part = 0
+    for point, above in reversed(places):
+        parts = [None] * 4
+        parts[part] = tree
+        tree = (point, tuple(parts))
+        part = above
+    return tree
+
+
+# For each part a chain of points that lie in it for each other.
+STEPS = [(-1, -1), (1, -1), (-1, 1), (1, 1)]
+
+
+def long_chain(part, many):
+    """Return a chain of so many nodes in which each part has one number."""
+    step_x, step_y = STEPS[part]
+    return chain([(point, part) for point in line(many, step_x, step_y)])
