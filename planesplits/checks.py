@@ -12,21 +12,21 @@ def is_integer(value):
     return isinstance(value, int) and not isinstance(value, bool)
 
 
-def is_integer_up_to(value, most):
-    """Return whether a value is an integer whose absolute value is at most `most`."""
-    return is_integer(value) and abs(value) <= most
+def is_coordinate(value):
+    """Return whether any object is a coordinate."""
+    return is_integer(value) and -FARTHEST_COORDINATE <= value <= FARTHEST_COORDINATE
 
 
 def is_point(value):
     """Return whether any object is a point."""
     if not isinstance(value, tuple) or len(value) != 2:
         return False
-    return all([is_integer_up_to(entry, FARTHEST_COORDINATE) for entry in value])
+    return is_coordinate(value[0]) and is_coordinate(value[1])
 
 
 def is_end(value):
     """Return whether any object can be an end of a rectangle."""
-    return value is None or is_integer_up_to(value, FARTHEST_END)
+    return value is None or is_integer(value) and -FARTHEST_END <= value <= FARTHEST_END
 
 
 def are_in_order(low, high):

@@ -13,10 +13,16 @@ def y_key(point):
 
 def part_of(root, point):
     """Return the number of the part in which a point lies for a root, None for the same point."""
-    if root == point:
+    x, y = root
+    # With another x, the x alone decides the x-key, and equal y go by the x.
+    if point[0] > x:
+        return 3 if point[1] >= y else 1
+    if point[0] < x:
+        return 2 if point[1] > y else 0
+    if point[1] == y:
         return None
-    part = 1 if point > root else 0
-    return part + 2 if y_key(point) > y_key(root) else part
+    # With the same x, both keys go by the y.
+    return 3 if point[1] > y else 0
 
 
 def lies_in(point, rectangle):

@@ -6,10 +6,13 @@ The functions of the interface check their arguments; the others expect valid on
 
 from planesplits.checks import check_point, check_points, is_point
 from planesplits.errors import AlreadyThere, InvalidTree, NotThere
+from planesplits.growth import grown
 from planesplits.points import part_of, y_key
 
 MOST_NODES = 500
 NO_ENDS = (None, None, None, None)
+# Keys farther out than those of all points.
+ALL_KEYS = ((-10 ** 31, 0), (-10 ** 31, 0), (10 ** 31, 0), (10 ** 31, 0))
 # What is put on a pile in this order comes off it in the order of the numbers.
 LAST_PART_FIRST = (3, 2, 1, 0)
 
@@ -35,34 +38,33 @@ def narrowed(ends, split, part):
     return (x, y, x2, y2)
 
 
-def is_between(key, low, high):
-    """Return whether a key lies strictly between two others, either of which can lack."""
-    return (low is None or key > low) and (high is None or key < high)
-
-
-def fits(point, ends):
-    """Return whether the keys of a point lie between keys that are ends of its part."""
-    x, y, x2, y2 = ends
-    return is_between(point, x, x2) and is_between(y_key(point), y, y2)
+def part_keys(keys, point):
+    """Return the keys (x, y, x2, y2) between which the points of parts 0 to 3 lie, for those of the whole."""
+    x, y, x2, y2 = keys
+    split = y_key(point)
+    return ((x, y, point, split), (point, y, x2, split), (x, split, point, y2), (point, split, x2, y2))
 
 
 def fault_of(value):
     """Return the path of the first fault of any object as a quarter tree, None if there is none."""
     many = 0
-    pile = [(value, (), NO_ENDS)]
+    pile = [(value, (), ALL_KEYS)]
     while pile:
-        thing, path, ends = pile.pop()
+        thing, path, keys = pile.pop()
         if thing is None:
             continue
         many += 1
-        if many > MOST_NODES or not is_node(thing) or not fits(thing[0], ends):
+        if many > MOST_NODES or not is_node(thing):
             return path
         point, parts = thing
-        split = (point, y_key(point))
+        x, y, x2, y2 = keys
+        if not x < point < x2 or not y < y_key(point) < y2:
+            return path
+        below = part_keys(keys, point)
         for part in LAST_PART_FIRST:
             # Without None, paths are made for nodes alone, and not for their empty parts.
             if parts[part] is not None:
-                pile.append((parts[part], path + (part,), narrowed(ends, split, part)))
+                pile.append((parts[part], path + (part,), below[part]))
     return None
 
 
@@ -71,32 +73,6 @@ def check_quarter(value):
     path = fault_of(value)
     if path is not None:
         raise InvalidTree(path)
-
-
-def hang(points, below, number):
-    """Note the point with a number as a part of the one among those before it where its way ends."""
-    if number == 0:
-        return
-    at = 0
-    part = part_of(points[at], points[number])
-    while below[at][part] is not None:
-        at = below[at][part]
-        part = part_of(points[at], points[number])
-    below[at][part] = number
-
-
-def grown(points):
-    """Return the quarter tree that comes of inserting points in their order."""
-    below = []
-    for number in range(len(points)):
-        hang(points, below, number)
-        below.append([None, None, None, None])
-    trees = {None: None}
-    # The points of the parts of a point come after it, so from the last one on all parts are made.
-    for number in reversed(range(len(points))):
-        parts = [trees[part] for part in below[number]]
-        trees[number] = (points[number], tuple(parts))
-    return trees.get(0)
 
 
 def reading(tree):
