@@ -5,6 +5,9 @@ The functions of the interface check their arguments; the others expect valid on
 
 from planesplits.checks import check_number, check_point, check_points, check_rectangle
 
+# What is put on a pile in this order comes off it in the order of the numbers.
+LAST_PART_FIRST = (3, 2, 1, 0)
+
 
 def y_key(point):
     """Return the y-key of a point. (A point is its own x-key.)"""

@@ -7,14 +7,11 @@ The functions of the interface check their arguments; the others expect valid on
 from planesplits.checks import check_point, check_points, is_point
 from planesplits.errors import AlreadyThere, InvalidTree, NotThere
 from planesplits.growth import grown
-from planesplits.points import part_of, y_key
+from planesplits.points import LAST_PART_FIRST, part_of, y_key
 
 MOST_NODES = 500
-NO_ENDS = (None, None, None, None)
 # Keys farther out than those of all points.
 ALL_KEYS = ((-10 ** 31, 0), (-10 ** 31, 0), (10 ** 31, 0), (10 ** 31, 0))
-# What is put on a pile in this order comes off it in the order of the numbers.
-LAST_PART_FIRST = (3, 2, 1, 0)
 
 
 def is_node(value):
@@ -38,16 +35,10 @@ def narrowed(ends, split, part):
     return (x, y, x2, y2)
 
 
-def part_keys(keys, point):
-    """Return the keys (x, y, x2, y2) between which the points of parts 0 to 3 lie, for those of the whole."""
-    x, y, x2, y2 = keys
-    split = y_key(point)
-    return ((x, y, point, split), (point, y, x2, split), (x, split, point, y2), (point, split, x2, y2))
-
-
 def fault_of(value):
     """Return the path of the first fault of any object as a quarter tree, None if there is none."""
     many = 0
+    # With each thing go its path, and the keys between which those of its point must lie.
     pile = [(value, (), ALL_KEYS)]
     while pile:
         thing, path, keys = pile.pop()
@@ -57,14 +48,14 @@ def fault_of(value):
         if many > MOST_NODES or not is_node(thing):
             return path
         point, parts = thing
+        split = (point, y_key(point))
         x, y, x2, y2 = keys
-        if not x < point < x2 or not y < y_key(point) < y2:
+        if not x < point < x2 or not y < split[1] < y2:
             return path
-        below = part_keys(keys, point)
         for part in LAST_PART_FIRST:
             # Without None, paths are made for nodes alone, and not for their empty parts.
             if parts[part] is not None:
-                pile.append((parts[part], path + (part,), below[part]))
+                pile.append((parts[part], path + (part,), narrowed(keys, split, part)))
     return None
 
 
@@ -75,16 +66,21 @@ def check_quarter(value):
         raise InvalidTree(path)
 
 
-def reading(tree):
-    """Return the list of the points of a tree in reading order."""
-    points = []
+def nodes_of(tree):
+    """Return the list of the nodes of a tree in reading order."""
+    nodes = []
     pile = [tree]
     while pile:
         node = pile.pop()
         if node is not None:
-            points.append(node[0])
+            nodes.append(node)
             pile.extend(node[1][::-1])
-    return points
+    return nodes
+
+
+def reading(tree):
+    """Return the list of the points of a tree in reading order."""
+    return [node[0] for node in nodes_of(tree)]
 
 
 def way_down(tree, point):

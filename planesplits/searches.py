@@ -4,8 +4,10 @@ A tree may be 500 levels deep, so the searches keep what they have yet to visit 
 """
 
 from planesplits.checks import check_point, check_rectangle
-from planesplits.points import lies_in, square_distance, square_gap
-from planesplits.quarters import LAST_PART_FIRST, NO_ENDS, check_quarter, narrowed, reading
+from planesplits.points import LAST_PART_FIRST, lies_in, square_distance, square_gap
+from planesplits.quarters import check_quarter, narrowed, reading
+
+NO_ENDS = (None, None, None, None)
 
 
 def reaches(is_high, split, low, high):

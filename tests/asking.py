@@ -5,6 +5,19 @@ import unittest
 from planesplits import errors
 
 
+def lists_in(value):
+    """Return all lists in a value, itself too."""
+    rows = []
+    pile = [value]
+    while pile:
+        thing = pile.pop()
+        if isinstance(thing, list):
+            rows.append(thing)
+        if isinstance(thing, (list, tuple)):
+            pile.extend(thing)
+    return rows
+
+
 class Case(unittest.TestCase):
     """A test case that can ask for errors, and for what is new."""
 
@@ -34,18 +47,39 @@ class Case(unittest.TestCase):
     def fails_at_tree(self, path, function, *arguments):
         self.fails(errors.InvalidTree, "path", path, function, *arguments)
 
+    def fails_at_number(self, name, function, *arguments):
+        self.fails(errors.InvalidNumber, "name", name, function, *arguments)
+
+    def fails_at_order(self, index, function, *arguments):
+        self.fails(errors.InvalidOrder, "index", index, function, *arguments)
+
+    def too_large(self, limit, function, *arguments):
+        self.fails(errors.TooLarge, "limit", limit, function, *arguments)
+
+    def fails_in_order(self, function, good, bad):
+        """Ask for the errors of wrong arguments, of which the first decides.
+
+        `good` are right arguments, `bad` has for each of them a list of tuples (value, error, name, told).
+        """
+        self.assertEqual(len(good), len(bad))
+        for at, rows in enumerate(bad):
+            for number, (value, error, name, told) in enumerate(rows):
+                for turn in range(3):
+                    arguments = list(good[:at]) + [value] + list(good[at + 1:])
+                    # Once the others are right, once all behind are wrong, once every other one of them.
+                    for later in range(at + 1, len(good), turn) if turn > 0 else []:
+                        arguments[later] = bad[later][(number + turn) % len(bad[later])][0] if bad[later] else None
+                    self.fails(error, name, told, function, *arguments)
+
     def gives(self, wanted, function, *arguments):
-        """Ask for a value of the same kind throughout, which is new each time."""
+        """Ask for a value of the same kind throughout, which is new each time, and for arguments that stay."""
+        handed = [argument for argument in arguments if isinstance(argument, list)]
+        kept = [list(argument) for argument in handed]
         told = function(*arguments)
         again = function(*arguments)
         self.assertEqual(told, wanted)
         self.assertEqual(repr(told), repr(wanted))
         self.assertEqual(repr(again), repr(wanted))
-        self.no_list_twice(told, again)
-
-    def no_list_twice(self, told, again):
-        if isinstance(told, list):
-            self.assertIsNot(told, again)
-        if isinstance(told, tuple):
-            for one, other in zip(told, again):
-                self.no_list_twice(one, other)
+        self.assertEqual(handed, kept)
+        lists = lists_in(told) + lists_in(again) + handed
+        self.assertEqual(len({id(thing) for thing in lists}), len(lists_in(told) + lists_in(again)) + len(handed))

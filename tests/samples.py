@@ -111,3 +111,69 @@ def long_chain(part, many):
     """Return a chain of so many nodes in which each part has one number."""
     step_x, step_y = STEPS[part]
     return chain([(point, part) for point in line(many, step_x, step_y)])
+
+
+def no_numbers(least, most):
+    """Return what is no integer from `least` to `most`."""
+    return NOTHING_WANTED + [None, least - 1, most + 1, MANY_FIGURES, -MANY_FIGURES, (), [], (least,), [least],
+                             str(least), (0, 0)]
+
+
+NO_FIGURES = no_numbers(0, 40)
+NO_CAPS = no_numbers(1, 500)
+
+
+def no_places(figures):
+    """Return what is no place of a square."""
+    side = 1 << figures
+    return NO_POINTS + [(side, 0), (0, side), (-1, 0), (0, -1), (side, side), (FAR, 0), (-FAR, -FAR)]
+
+
+def no_cells(figures):
+    """Return what is no cell of a square."""
+    return NOTHING_WANTED + [
+        None, 0, MANY_FIGURES, (), (0,), (0, 0), (0, 0, 0, 0), [0, 0, 0], (False, 0, 0), (0, False, 0), (0, 0, False),
+        (True, 0, 0), (1, True, 0), (1, 0, True), (-1, 0, 0), (0, 1, 0), (0, 0, 1), (0, -1, 0), (0, 0, -1), (1, 2, 0),
+        (1, 0, 2), (figures, 1 << figures, 0), (figures, 0, 1 << figures), (figures + 1, 0, 0), (MANY_FIGURES, 0, 0),
+        (-MANY_FIGURES, 0, 0), (0, MANY_FIGURES, 0), ("0", 0, 0), (0, "0", 0), (0, 0, [0]), ((0, 0), 0, 0),
+        (None, None, None), ((0, 0, 0),), (0, 1j, 0),
+    ]
+
+
+def no_square_points(figures):
+    """Return tuples of the index and a value that are no points of a square of at least two figures."""
+    side = 1 << figures
+    return NO_POINT_LISTS + [
+        (0, [(side, 0)]), (0, ((0, side),)), (0, [(-1, 0)]), (0, [(0, -1)]), (1, [(0, 0), (side, side), (-1, 0)]),
+        (1, ((0, 0), (0, -1))), (2, [(0, side), (0, 0), (0, 0)]), (2, [(0, side), (0, 0), None]),
+        (1, [(0, -1), (0, -1)]), (2, [(1, 1), (0, 0), (FAR, FAR)]), (3, [(0, 0), (1, 1), (2, 2), (0, -FAR)]),
+    ]
+
+
+def wrong(values, error, name, told=None):
+    """Return tuples (value, error, name, told) for values; those that an error tells itself without `told`."""
+    return [(value, error, name, value if told is None else told) for value in values]
+
+
+def wrong_numbers(name, least, most):
+    return wrong(no_numbers(least, most), errors.InvalidNumber, "name", name)
+
+
+def wrong_places(name, figures):
+    return wrong(no_places(figures), errors.Mismatch, "name", name)
+
+
+def wrong_pairs(pairs, error, name):
+    """Return tuples (value, error, name, told) for tuples (told, value)."""
+    return [(value, error, name, told) for told, value in pairs]
+
+
+WRONG_FIGURES = wrong_numbers("figures", 0, 40)
+WRONG_CAPS = wrong_numbers("cap", 1, 500)
+WRONG_RECTANGLES = wrong(NO_RECTANGLES, errors.InvalidRectangle, "value")
+WRONG_TREES = wrong_pairs(NO_TREES, errors.InvalidTree, "path")
+WRONG_POINTS = wrong_pairs(NO_POINT_LISTS, errors.InvalidPoints, "index")
+
+
+def wrong_square_points(figures):
+    return wrong_pairs(no_square_points(figures), errors.InvalidPoints, "index")

