@@ -52,10 +52,8 @@ def parts_by_gap(node, box, point):
     return sorted(rows, key=lambda row: row[0])
 
 
-def ranged(tree, rectangle):
-    """Return the list of the points in a rectangle, and that of all that are visited."""
-    check_quarter(tree)
-    check_rectangle(rectangle)
+def parts_ranged(tree, rectangle):
+    """Return the list of the points in a rectangle, and that of all that are visited, for valid arguments."""
     found = []
     visited = []
     pile = [] if tree is None else [tree]
@@ -66,6 +64,32 @@ def ranged(tree, rectangle):
             found.append(node[0])
         pile.extend([node[1][part] for part in held_parts(node, rectangle)])
     return found, visited
+
+
+def parts_nearest(tree, point):
+    """Return the nearest point, and the list of those that are visited, for valid arguments."""
+    best = None
+    least = None
+    visited = []
+    pile = [] if tree is None else [(0, tree, NO_ENDS)]
+    while pile:
+        gap, node, box = pile.pop()
+        if least is not None and gap >= least:
+            continue
+        visited.append(node[0])
+        here = square_distance(point, node[0])
+        if least is None or here < least:
+            best = node[0]
+            least = here
+        pile.extend(parts_by_gap(node, box, point)[::-1])
+    return best, visited
+
+
+def ranged(tree, rectangle):
+    """Return the list of the points in a rectangle, and that of all that are visited."""
+    check_quarter(tree)
+    check_rectangle(rectangle)
+    return parts_ranged(tree, rectangle)
 
 
 def counted(tree, rectangle):
@@ -92,18 +116,4 @@ def nearest(tree, point):
     """Return a point of the tree that is nearest to a point, and the list of those that are visited."""
     check_quarter(tree)
     check_point(point)
-    best = None
-    least = None
-    visited = []
-    pile = [] if tree is None else [(0, tree, NO_ENDS)]
-    while pile:
-        gap, node, box = pile.pop()
-        if least is not None and gap >= least:
-            continue
-        visited.append(node[0])
-        here = square_distance(point, node[0])
-        if least is None or here < least:
-            best = node[0]
-            least = here
-        pile.extend(parts_by_gap(node, box, point)[::-1])
-    return best, visited
+    return parts_nearest(tree, point)

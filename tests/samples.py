@@ -1,6 +1,8 @@
 """Values for the tests: those that are something else than is wanted, and trees of known forms."""
 
 from planesplits import errors, points, quarters
+from planesplits.forest import Forest
+from planesplits.live import Index
 
 LEAF = (None, None, None, None)
 FAR = 10 ** 30
@@ -11,7 +13,8 @@ MANY_FIGURES = 10 ** 5000
 NOTHING_WANTED = [
     True, False, "", "(0, 0)", b"", b"ab", 1j, ..., NotImplemented, {}, {(0, 0): True}, {(0, 0)}, set(),
     frozenset([(0, 0)]), range(2), range(4), bytearray(b"ab"), memoryview(b"ab"), iter(()), object(), int, len,
-    errors, errors.InvalidPoint, errors.InvalidPoint(3), points.quarter, quarters.built, slice(2),
+    errors, errors.InvalidPoint, errors.InvalidPoint(3), points.quarter, quarters.built, slice(2), Forest,
+    Forest([(0, 0)]), Index(1, 1),
 ]
 
 NO_POINTS = NOTHING_WANTED + [
@@ -113,6 +116,44 @@ def long_chain(part, many):
     return chain([(point, part) for point in line(many, step_x, step_y)])
 
 
+def side_chain(many):
+    """Return a middle tree of points in a line, so many, each on the high side of the one before it."""
+    tree = None
+    for point in reversed(line(many, 1, 1)):
+        tree = (point, None, tree)
+    return tree
+
+
+def side(point, low=None, high=None):
+    """Return a node of a middle tree."""
+    return (point, low, high)
+
+
+# Tuples of the path of the first fault and a value.
+NO_MIDDLE_TREES = [((), value) for value in NOTHING_WANTED] + [
+    ((), 0), ((), 5), ((), MANY_FIGURES), ((), []), ((), ()), ((), (0, 0)), ((), (0, 0, 0)), ((), (None, None, None)),
+    ((), [(0, 0), None, None]), ((), ([0, 0], None, None)), ((), ((0, 0),)), ((), ((0, 0), None)),
+    ((), ((0, 0), None, None, None)), ((), ((0, 0), (None, None))), ((), ((0, 0), LEAF)), ((), node((0, 0))),
+    ((), ((True, 0), None, None)), ((), ((0, FAR + 1), None, None)), ((), ((0, 0, 0), None, None)),
+    ((0,), side((0, 0), 0)), ((1,), side((0, 0), None, False)), ((0,), side((0, 0), [], [])),
+    ((1,), side((0, 0), None, ())), ((1,), side((0, 0), None, (1, 1))), ((0,), side((0, 0), side((0, 0)))),
+    ((1,), side((0, 0), None, side((0, 0)))), ((0,), side((0, 0), side((1, 0)))),
+    ((1,), side((0, 0), None, side((-1, 9)))), ((0,), side((0, 0), side((0, 1)))),
+    ((1,), side((0, 0), None, side((0, -1)))), ((0,), side((0, 0), side((0, 1)), side((0, -1)))),
+    ((0, 0), side((0, 0), side((-3, 5), side((-5, 6))))), ((0, 1), side((0, 0), side((-3, 5), None, side((-5, 4))))),
+    ((0, 0), side((0, 0), side((-3, 5), side((-2, 5))))), ((0, 1), side((0, 0), side((-3, 5), None, side((-4, 5))))),
+    ((0, 0), side((0, 0), side((-3, 5), side((1, 4))))), ((0, 1), side((0, 0), side((-3, 5), None, side((1, 6))))),
+    ((1, 0), side((0, 0), None, side((3, 5), side((-1, 4))))), ((1, 0), side((0, 0), None, side((3, 5), side((3, 5))))),
+    ((1, 1), side((0, 0), side((-1, 0)), side((3, 5), side((1, 1)), side((0, 0))))),
+    ((1, 0, 0), side((0, 0), None, side((3, 5), side((2, 2), side((3, 1)))))),
+    ((1, 0, 1), side((0, 0), None, side((3, 5), side((2, 2), None, side((1, 1)))))),
+    ((1, 0, 1), side((0, 0), None, side((3, 5), side((2, 2), None, side((4, 6)))))),
+    ((1, 0, 1, 1), side((0, 0), None, side((3, 5), side((2, 2), None, side((4, 1), None, side((3, 0))))))),
+    ((0, 0), side((0, 0), side((-3, 5), ((-4, True), None, None), 7))), ((1,), side((0, 0), side((-3, 5)), 7)),
+    ((0, 1), side((0, 0), side((-3, 5), None, ((-2, 6), None)), 7)),
+]
+
+
 def no_numbers(least, most):
     """Return what is no integer from `least` to `most`."""
     return NOTHING_WANTED + [None, least - 1, most + 1, MANY_FIGURES, -MANY_FIGURES, (), [], (least,), [least],
@@ -171,6 +212,8 @@ def wrong_pairs(pairs, error, name):
 WRONG_FIGURES = wrong_numbers("figures", 0, 40)
 WRONG_CAPS = wrong_numbers("cap", 1, 500)
 WRONG_RECTANGLES = wrong(NO_RECTANGLES, errors.InvalidRectangle, "value")
+WRONG_POINT = wrong(NO_POINTS, errors.InvalidPoint, "value")
+WRONG_MIDDLES = wrong_pairs(NO_MIDDLE_TREES, errors.InvalidTree, "path")
 WRONG_TREES = wrong_pairs(NO_TREES, errors.InvalidTree, "path")
 WRONG_POINTS = wrong_pairs(NO_POINT_LISTS, errors.InvalidPoints, "index")
 

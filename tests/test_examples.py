@@ -11,7 +11,7 @@ class ExamplesTest(unittest.TestCase):
 
     def test_document(self):
         failed, tried = doctest.testfile(str(FOLDER / "examples.txt"), module_relative=False)
-        self.assertEqual((failed, tried), (0, 27))
+        self.assertEqual((failed, tried), (0, 65))
 
     def test_readme(self):
         failed, tried = doctest.testfile(str(FOLDER.parent / "README.md"), module_relative=False)

@@ -18,7 +18,17 @@ METHODS = set("""append clear copy count endswith extend find get index insert i
 BUILTINS = set("""len range enumerate zip min max sum abs sorted reversed int str bool list tuple dict set isinstance
     repr any all divmod super ValueError""".split())
 # These call themselves at most 41 times, one within the other.
-NEVER_DEEP = ["grown_short", "shallow"]
+NEVER_DEEP = ["grown_short", "shallow", "grown_sides", "trees_of", "common", "inverted", "placed_anew", "window",
+              "numbered", "paint", "picture_of_box", "text_rows"]
+
+
+def methods_and_attributes():
+    """Return the names of all methods of the package, and of all attributes that it assigns."""
+    classes = [node for name, tree in trees() for node in ast.walk(tree) if isinstance(node, ast.ClassDef)]
+    methods = [row.name for node in classes for row in node.body if isinstance(row, ast.FunctionDef)]
+    stored = [node.attr for name, tree in trees() for node in ast.walk(tree)
+              if isinstance(node, ast.Attribute) and isinstance(node.ctx, ast.Store)]
+    return methods, stored
 
 
 def trees():
@@ -71,13 +81,14 @@ class LanguageTest(unittest.TestCase):
         for name, tree in trees():
             own = assigned(tree)
             for word in own:
-                if word != "__init__":
+                if word not in ("__init__", "__eq__"):
                     self.assertFalse(hasattr(builtins, word) or word.startswith("_"), (name, word))
             for node in ast.walk(tree):
                 if isinstance(node, ast.Name):
                     self.assertIn(node.id, BUILTINS | set(own), (name, node.id))
 
     def test_other_words(self):
+        allowed = METHODS | set(methods_and_attributes()[0])
         for name, tree in trees():
             imports = [row.name for node in ast.walk(tree) if isinstance(node, ast.ImportFrom) for row in node.names]
             used = [node.id for node in ast.walk(tree) if isinstance(node, ast.Name)]
@@ -90,7 +101,14 @@ class LanguageTest(unittest.TestCase):
                         self.assertNotIn(word, imports, (name, function.name))
             for node in ast.walk(tree):
                 if isinstance(node, ast.Call) and isinstance(node.func, ast.Attribute):
-                    self.assertIn(node.func.attr, METHODS, (name, node.lineno))
+                    self.assertIn(node.func.attr, allowed, (name, node.lineno))
+
+    def test_methods_and_attributes(self):
+        methods, stored = methods_and_attributes()
+        self.assertEqual(set(methods) & set(stored), set())
+        for value in ("", 0, [], {}, set(), b""):
+            for word in methods + stored:
+                self.assertTrue(word.startswith("__") or word == "index" or not hasattr(value, word), word)
 
     def test_no_round_of_imports(self):
         imports = {name[:-3]: [node.module.split(".")[1] for node in ast.walk(tree) if isinstance(node, ast.ImportFrom)]
