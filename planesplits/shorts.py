@@ -109,10 +109,16 @@ def way_to(figures, tree, place):
 
 def stretches(figures, rectangle):
     """Return the ascending list of the fewest tuples (first, last) that have just the codes in a rectangle."""
-    if count_stretches(figures, rectangle) > MOST_STRETCHES:
-        raise TooLarge(MOST_STRETCHES)
+    check_figures(figures)
+    check_rectangle(rectangle)
     box = box_of(figures, rectangle)
-    return [] if box is None else runs_of(figures, box)
+    if box is None:
+        return []
+    many = count_runs(figures, box)
+    if many > MOST_STRETCHES:
+        raise TooLarge(MOST_STRETCHES)
+    # Codes ascend with both coordinates, so all of them lie between those of two corners.
+    return [(code_at(box[:2]), code_at(box[2:]))] if many == 1 else runs_of(box)
 
 
 def count_stretches(figures, rectangle):
@@ -129,7 +135,7 @@ def next_code(figures, rectangle, code):
     check_rectangle(rectangle)
     check_code(code, figures)
     box = box_of(figures, rectangle)
-    return None if box is None else next_run_code(figures, box, code)
+    return None if box is None else next_run_code(box, code)
 
 
 def jumped(figures, points, rectangle):
@@ -152,5 +158,5 @@ def jumped(figures, points, rectangle):
             found.append(point)
             least = code + 1
         else:
-            least = next_run_code(figures, box, code)
+            least = next_run_code(box, code)
     return found, visited

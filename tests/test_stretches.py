@@ -29,6 +29,24 @@ def some_rectangles(figures, many, seed):
     return random.Random(seed).sample(rectangles(figures), many)
 
 
+def few_places(generator, figures, most):
+    """Return a rectangle of a few places of a square, often where large cells begin and end."""
+    ends = []
+    for axis in (0, 1):
+        length = generator.randrange(min(most, 2 ** figures))
+        step = 2 ** generator.randrange(figures + 1)
+        low = generator.randrange(2 ** figures) // step * step - generator.choice([0, 1, length, generator.randrange(9)])
+        low = max(0, min(low, 2 ** figures - 1 - length))
+        ends.append((low, low + length))
+    return (ends[0][0], ends[1][0], ends[0][1], ends[1][1])
+
+
+def codes_of_few(figures, rectangle):
+    """Return the ascending codes of all places of a rectangle, one by one."""
+    x, y, x2, y2 = rectangle
+    return sorted([naive.code(figures, (i, j)) for i in range(x, x2 + 1) for j in range(y, y2 + 1)])
+
+
 class StretchesTest(Case):
 
     def test_few(self):
@@ -55,6 +73,53 @@ class StretchesTest(Case):
                 runs = naive.runs(naive.codes_in(figures, rectangle))
                 self.gives(runs, stretches, figures, rectangle)
                 self.gives(len(runs), count_stretches, figures, rectangle)
+
+    def test_few_places_in_great_squares(self):
+        generator = random.Random(11)
+        for turn in range(400):
+            figures = generator.choice([6, 7, 13, 20, 31, 32, 33, 39, 40])
+            rectangle = few_places(generator, figures, 14)
+            runs = naive.runs(codes_of_few(figures, rectangle))
+            self.gives(runs, stretches, figures, rectangle)
+            self.gives(len(runs), count_stretches, figures, rectangle)
+
+    def test_rows_and_columns_in_great_squares(self):
+        generator = random.Random(12)
+        for turn in range(60):
+            figures = generator.choice([12, 20, 33, 40])
+            low = generator.choice([0, 2 ** 11 - 250, generator.randrange(2 ** 12 - 500)])
+            across = generator.choice([0, 2 ** figures - 1, generator.randrange(2 ** figures)])
+            width = generator.randrange(min(3, 2 ** figures - across))
+            for rectangle in ((low, across, low + 400, across + width), (across, low, across + width, low + 400)):
+                runs = naive.runs(codes_of_few(figures, rectangle))
+                self.gives(len(runs), count_stretches, figures, rectangle)
+                if len(runs) <= 1000:
+                    self.gives(runs, stretches, figures, rectangle)
+                else:
+                    self.too_large(1000, stretches, figures, rectangle)
+
+    def test_halves_and_quarters(self):
+        for figures in (1, 2, 3, 20, 40):
+            half = 2 ** (figures - 1)
+            whole = 4 ** figures
+            self.gives([(0, whole // 2 - 1)], stretches, figures, (None, None, None, half - 1))
+            self.gives([(whole // 2, whole - 1)], stretches, figures, (None, half, None, None))
+            self.gives([(0, whole // 4 - 1), (whole // 2, 3 * whole // 4 - 1)], stretches, figures,
+                       (None, None, half - 1, None))
+            self.gives([(whole // 4, whole // 2 - 1), (3 * whole // 4, whole - 1)], stretches, figures,
+                       (half, None, None, None))
+            self.gives([(whole // 4, whole // 2 - 1)], stretches, figures, (half, -5, half + 10 ** 20, half - 1))
+
+    def test_what_is_left_of_a_square(self):
+        # The stretches without those of a rectangle at the end lie between the others.
+        for figures in (3, 5):
+            side = 2 ** figures
+            for cut in range(1, side):
+                for rectangle in ((cut, 0, side - 1, side - 1), (0, cut, side - 1, side - 1),
+                                  (0, 0, side - 1 - cut, side - 1), (0, 0, side - 1, side - 1 - cut)):
+                    runs = naive.runs(naive.codes_in(figures, rectangle))
+                    self.assertEqual((stretches(figures, rectangle), count_stretches(figures, rectangle)),
+                                     (runs, len(runs)))
 
     def test_1000_and_1001(self):
         # Alone in their rows, two neighbouring places in the one direction have neighbouring codes, in the other none.
@@ -91,11 +156,20 @@ class StretchesTest(Case):
             self.gives([stretch_of(40, cell)], stretches, 40, (x, y, x + side - 1, y + side - 1))
 
     def test_quick(self):
+        # Each limit is about half of what the calls take if they go through all places, or all levels.
+        for many, most, function, arguments in [
+                (2000, 0.12, count_stretches, (40, (1, 1, None, None))), (100, 0.12, stretches, (12, (0, 0, 0, 999))),
+                (1000, 0.12, stretches, (40, (5, 5, 12, 12))), (2000, 0.08, stretches, (20, (100, 100, 111, 111))),
+                (5000, 0.08, next_code, (40, (5, 5, 12, 12), 4 ** 40 - 1)),
+                (100, 0.12, stretches, (40, (5, HALF - 500, 5, HALF + 499)))]:
+            took = [self.time_of(many, function, arguments) for turn in range(3)]
+            self.assertLess(min(took), most, (function, arguments))
+
+    def time_of(self, many, function, arguments):
         start = time.perf_counter()
-        for turn in range(20):
-            count_stretches(40, (1, 1, None, None))
-            stretches(40, (5, HALF - 500, 5, HALF + 499))
-        self.assertLess(time.perf_counter() - start, 2)
+        for turn in range(many):
+            function(*arguments)
+        return time.perf_counter() - start
 
     def test_by_name(self):
         self.assertEqual(stretches(rectangle=ALL, figures=1), [(0, 3)])
@@ -123,6 +197,24 @@ class NextCodeTest(Case):
                 for code in range(4 ** figures):
                     wanted = min([number for number in codes if number >= code], default=None)
                     self.assertEqual(next_code(figures, rectangle, code), wanted)
+
+    def test_few_places_in_great_squares(self):
+        generator = random.Random(13)
+        for turn in range(400):
+            figures = generator.choice([5, 6, 13, 20, 32, 40])
+            rectangle = few_places(generator, figures, 12)
+            codes = codes_of_few(figures, rectangle)
+            asked = [0, 4 ** figures - 1, generator.randrange(4 ** figures)]
+            asked += [code + step for code in generator.sample(codes, min(4, len(codes))) for step in (-1, 0, 1)]
+            # Codes with the same first figures as one of the rectangle, and other last ones.
+            for code in generator.sample(codes, min(4, len(codes))):
+                last = 4 ** generator.randrange(figures + 1)
+                asked += [code // last * last, code // last * last + last - 1,
+                          code // last * last + generator.randrange(last)]
+            for code in asked:
+                if 0 <= code < 4 ** figures:
+                    wanted = min([number for number in codes if number >= code], default=None)
+                    self.gives(wanted, next_code, figures, rectangle, code)
 
     def test_far(self):
         self.gives(0, next_code, 40, ALL, 0)
