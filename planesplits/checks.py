@@ -38,9 +38,9 @@ def is_rectangle(value):
     """Return whether any object is a rectangle."""
     if not isinstance(value, tuple) or len(value) != 4:
         return False
-    if not all([is_end(entry) for entry in value]):
-        return False
     x, y, x2, y2 = value
+    if not (is_end(x) and is_end(y) and is_end(x2) and is_end(y2)):
+        return False
     return are_in_order(x, x2) and are_in_order(y, y2)
 
 

@@ -87,16 +87,34 @@ def cells_above(cells):
     return known
 
 
+def met_on_axis(figures, level, low, high):
+    """Return the first and the last number in a row of cells of a level whose loose cells reach some places.
+
+    These are the places from `low` to `high`, either of which can lack. If none reaches them, the first number is
+    greater than the last one.
+    """
+    side = 1 << figures - level
+    last = (1 << level) - 1
+    # The loose cell of i ends at i * side + side - 1 + (side + 1) // 2, and begins at i * side - side // 2.
+    first = 0 if low is None else max(0, -((side - 1 + (side + 1) // 2 - low) // side))
+    return first, last if high is None else min(last, (high + side // 2) // side)
+
+
 def cells_visited(figures, cells, rectangle):
     """Return the list of the cells of a tree, a dict, that are visited for a rectangle, in their order."""
+    x, y, x2, y2 = rectangle
+    ranges = [met_on_axis(figures, level, x, x2) + met_on_axis(figures, level, y, y2) for level in range(figures + 1)]
     visited = []
     pile = [WHOLE] if WHOLE in cells else []
     while pile:
         cell = pile.pop()
         visited.append(cell)
         for part in four_cells(cell)[::-1]:
-            if part in cells and have_common(loose_box(figures, part), rectangle):
-                pile.append(part)
+            if part in cells:
+                level, i, j = part
+                first, last, first2, last2 = ranges[level]
+                if first <= i <= last and first2 <= j <= last2:
+                    pile.append(part)
     return visited
 
 
@@ -191,23 +209,15 @@ def idle(figures, boxes, rectangle):
     return [cell for cell in cells_visited(figures, cells_above(list(rows)), rectangle) if cell not in busy]
 
 
-def count_on_axis(figures, level, low, high):
-    """Return how many cells in a row of a level have loose cells that reach places from `low` to `high`."""
-    side = 1 << figures - level
-    last = (1 << level) - 1
-    # The loose cell of i ends at i * side + side - 1 + (side + 1) // 2, and begins at i * side - side // 2.
-    first = 0 if low is None else max(0, -((side - 1 + (side + 1) // 2 - low) // side))
-    final = last if high is None else min(last, (high + side // 2) // side)
-    return max(0, final - first + 1)
-
-
 def cells_met(figures, level, rectangle):
     """Return how many cells of a level have loose cells that have a place in common with a rectangle."""
     check_figures(figures)
     check_number(level, 0, figures, "level")
     check_rectangle(rectangle)
     x, y, x2, y2 = rectangle
-    return count_on_axis(figures, level, x, x2) * count_on_axis(figures, level, y, y2)
+    first, last = met_on_axis(figures, level, x, x2)
+    first2, last2 = met_on_axis(figures, level, y, y2)
+    return max(0, last - first + 1) * max(0, last2 - first2 + 1)
 
 
 def most_on_axis(figures, level, length):

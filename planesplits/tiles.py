@@ -73,7 +73,7 @@ def noted(parts, tuples):
 def all_nodes(picture):
     """Return the list of all nodes of a picture, each as often as it stands."""
     nodes = [picture]
-    row = nodes
+    row = [picture]
     while row:
         row = [part for node in row if isinstance(node, tuple) for part in node]
         nodes.extend(row)

@@ -14,11 +14,11 @@ LOW = 1
 HIGH = 2
 MOST_ASKED = 10 ** 18
 MOST_PLACED = 300
-# The ends of the rectangles, and the bounds of the plane, for the points that are placed. Each point needs room in
-# the middle of two others, at most ten times one within the other.
-LOW_END = -1024 * 1024
-HIGH_END = 1024 * 1024
-FARTHEST = 1024 * 1024 * 1024
+# The ends of the rectangles, and the bounds of the plane, for the points that are placed. Each point stands in the
+# middle between two of these or of other points, at most nine times one within the other.
+LOW_END = -1000000
+HIGH_END = 1000000
+FARTHEST = 1000000000
 # For each state on an axis the ways in which a split can lie: whether it makes the root useless, and the states of the
 # low and the high side. A side that is not visited has the state 4.
 NOT_VISITED = 4
@@ -29,8 +29,8 @@ WAYS = (
     ((0, 1, 2), (1, 4, 3), (1, 3, 4)),
 )
 # For quarter trees rows have 25 numbers, at 5 * x + y for the states x and y, as parts that are not visited count, too.
-NO_PART = (0,) * 25
-LEAF_ROW = (0, 1, 1, 1, 0) + (1, 1, 1, 1, 0) * 3 + (0,) * 5
+NO_PART = (0, 0, 0, 0, 0, 0, 0, 0, 0, 0, 0, 0, 0, 0, 0, 0, 0, 0, 0, 0, 0, 0, 0, 0, 0)
+LEAF_ROW = (0, 1, 1, 1, 0, 1, 1, 1, 1, 0, 1, 1, 1, 1, 0, 1, 1, 1, 1, 0, 0, 0, 0, 0, 0)
 
 
 def check_state(value, name):

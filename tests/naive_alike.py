@@ -81,7 +81,8 @@ def candidates(one, other):
         pairs, pairs2 = corner(found, places), corner(found2, places)
         for pair in sorted(set(pairs + pairs2)):
             if pairs.count(pair) != pairs2.count(pair):
-                return [[first, second] for first in values(places[0], pair[0]) for second in values(places[1], pair[1])]
+                firsts, seconds = values(places[0], pair[0]), values(places[1], pair[1])
+                return [[first, second] for first in firsts for second in seconds]
     return []
 
 

@@ -145,6 +145,9 @@ NO_MIDDLE_TREES = [((), value) for value in NOTHING_WANTED] + [
     ((0, 0), side((0, 0), side((-3, 5), side((1, 4))))), ((0, 1), side((0, 0), side((-3, 5), None, side((1, 6))))),
     ((1, 0), side((0, 0), None, side((3, 5), side((-1, 4))))), ((1, 0), side((0, 0), None, side((3, 5), side((3, 5))))),
     ((1, 1), side((0, 0), side((-1, 0)), side((3, 5), side((1, 1)), side((0, 0))))),
+    ((1, 0), side((0, 0), None, side((3, 5), side((0, 0))))), ((0, 0), side((0, 0), side((-3, 5), side((0, 0))))),
+    ((1, 1, 0), side((0, 0), None, side((3, 5), None, side((9, 9), side((3, 5)))))),
+    ((0, 0, 0), side((0, 0), side((-3, 5), side((-5, 4), side((-3, 5)))))),
     ((1, 0, 0), side((0, 0), None, side((3, 5), side((2, 2), side((3, 1)))))),
     ((1, 0, 1), side((0, 0), None, side((3, 5), side((2, 2), None, side((1, 1)))))),
     ((1, 0, 1), side((0, 0), None, side((3, 5), side((2, 2), None, side((4, 6)))))),
@@ -152,6 +155,15 @@ NO_MIDDLE_TREES = [((), value) for value in NOTHING_WANTED] + [
     ((0, 0), side((0, 0), side((-3, 5), ((-4, True), None, None), 7))), ((1,), side((0, 0), side((-3, 5)), 7)),
     ((0, 1), side((0, 0), side((-3, 5), None, ((-2, 6), None)), 7)),
 ]
+
+
+def drawn_rectangle(generator, least, most):
+    """Return a rectangle with ends from `least` to `most`, some of which lack."""
+    ends = []
+    for axis in (0, 1):
+        low, high = sorted([generator.randrange(least, most + 1) for end in (0, 1)])
+        ends.append((low if generator.random() < 0.7 else None, high if generator.random() < 0.7 else None))
+    return (ends[0][0], ends[1][0], ends[0][1], ends[1][1])
 
 
 def no_numbers(least, most):

@@ -12,7 +12,8 @@ from planesplits.forest import Forest, cost_of, forest_most
 from planesplits.live import Index
 from planesplits.middles import middle
 from planesplits.worst import most_useless
-from samples import FAR, NO_POINT_LISTS, NO_POINTS, NO_RECTANGLES, NOTHING_WANTED, line, wrong_numbers
+from samples import (FAR, NO_POINT_LISTS, NO_POINTS, NO_RECTANGLES, NOTHING_WANTED, drawn_rectangle, line,
+                     wrong_numbers)
 from test_worst import wrong_states
 
 ALL = (None, None, None, None)
@@ -29,20 +30,12 @@ def told_by_words(slow):
     return [slow.rows, there, sorted(slow.lost), slow.cost]
 
 
-def drawn_rectangle(generator):
-    ends = []
-    for axis in (0, 1):
-        low, high = sorted([generator.randrange(-1, 7), generator.randrange(-1, 7)])
-        ends.append((low if generator.random() < 0.7 else None, high if generator.random() < 0.7 else None))
-    return (ends[0][0], ends[1][0], ends[0][1], ends[1][1])
-
-
 class DeedsTest(Case):
 
     def asks(self, forest, slow, generator):
         """Ask for all that a forest tells, and for errors of wrong deeds, which change nothing."""
         self.assertEqual(told(forest), told_by_words(slow))
-        rectangle = drawn_rectangle(generator)
+        rectangle = drawn_rectangle(generator, -1, 6)
         point = (generator.randrange(-1, 7), generator.randrange(-1, 7))
         self.gives(slow.ranged(rectangle), forest.ranged, rectangle)
         self.gives(slow.counted(rectangle), forest.counted, rectangle)
@@ -266,7 +259,7 @@ class NumbersTest(Case):
         generator = random.Random(2)
         for turn in range(200):
             points = generator.sample([(x, y) for x in range(6) for y in range(6)], generator.randrange(20))
-            rectangle = drawn_rectangle(generator)
+            rectangle = drawn_rectangle(generator, -1, 6)
             found, visited = Forest(points).ranged(rectangle)
             states = [{(True, True): "both", (True, False): "low", (False, True): "high", (False, False): "none"}[
                 (rectangle[axis] is not None, rectangle[axis + 2] is not None)] for axis in (0, 1)]

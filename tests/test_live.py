@@ -14,7 +14,8 @@ from planesplits.forest import Forest
 from planesplits.live import Index
 from planesplits.middles import is_middle
 from planesplits.quarters import is_quarter
-from samples import (FAR, NO_POINTS, NO_RECTANGLES, NOTHING_WANTED, WRONG_CAPS, WRONG_FIGURES, no_numbers, no_places)
+from samples import (FAR, NO_POINTS, NO_RECTANGLES, NOTHING_WANTED, WRONG_CAPS, WRONG_FIGURES, drawn_rectangle,
+                     no_numbers, no_places)
 
 ALL = (None, None, None, None)
 LAST = 2 ** 40 - 1
@@ -52,14 +53,6 @@ def cells_visited(figures, cap, points, rectangle):
     return look((0, 0, 0))
 
 
-def drawn_rectangle(generator, figures):
-    ends = []
-    for axis in (0, 1):
-        low, high = sorted([generator.randrange(-2, 2 ** figures + 2) for end in (0, 1)])
-        ends.append((low if generator.random() < 0.7 else None, high if generator.random() < 0.7 else None))
-    return (ends[0][0], ends[1][0], ends[0][1], ends[1][1])
-
-
 class DeedsTest(Case):
 
     def asks(self, index, states, deeds, generator):
@@ -67,7 +60,7 @@ class DeedsTest(Case):
         points, quarter, middle = states[-1]
         wanted = [points, quarter, middle, naive_squares.leaves(index.figures, index.cap, points), deeds]
         self.assertEqual(told(index), wanted)
-        rectangle = drawn_rectangle(generator, index.figures)
+        rectangle = drawn_rectangle(generator, -2, 2 ** index.figures + 1)
         visits = (len(naive.ranged(quarter, rectangle)[1]), len(naive_middles.ranged(middle, rectangle)[1]),
                   cells_visited(index.figures, index.cap, points, rectangle))
         found = [point for point in points if naive.inside(point, rectangle)]

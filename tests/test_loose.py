@@ -10,8 +10,8 @@ from asking import Case
 from planesplits import errors
 from planesplits.loose import (are_homes, cells_met, free_moves, home_of, homes, idle, least_met, loose_cell,
                                loose_tree, meeting, most_in_tree, most_met, reaching, searched)
-from samples import (FAR, FAR_END, MANY_FIGURES, NO_RECTANGLES, NOTHING_WANTED, WRONG_FIGURES, WRONG_RECTANGLES, no_cells,
-                     wrong, wrong_numbers)
+from samples import (FAR, FAR_END, MANY_FIGURES, NO_RECTANGLES, NOTHING_WANTED, WRONG_FIGURES, WRONG_RECTANGLES,
+                     drawn_rectangle, no_cells, wrong, wrong_numbers)
 
 ALL = (None, None, None, None)
 LAST = 2 ** 40 - 1
@@ -44,14 +44,6 @@ def wrong_boxes(figures):
 def drawn_boxes(generator, figures):
     everywhere = naive.all_boxes(figures)
     return [generator.choice(everywhere) for turn in range(generator.randrange(8))]
-
-
-def drawn_rectangle(generator, figures):
-    ends = []
-    for axis in (0, 1):
-        low, high = sorted([generator.randrange(-3, 2 ** figures + 3) for turn in range(2)])
-        ends.append((low if generator.random() < 0.8 else None, high if generator.random() < 0.8 else None))
-    return (ends[0][0], ends[1][0], ends[0][1], ends[1][1])
 
 
 class CellTest(Case):
@@ -234,7 +226,7 @@ class SearchTest(Case):
             figures = generator.randrange(4)
             boxes = drawn_boxes(generator, figures)
             for other in range(4):
-                rectangle = drawn_rectangle(generator, figures)
+                rectangle = drawn_rectangle(generator, -3, 2 ** figures + 2)
                 met = [k for k, box in enumerate(boxes) if naive.meet(box, rectangle)]
                 for value in (boxes, tuple(boxes)):
                     self.gives(met, meeting, figures, value, rectangle)
@@ -260,7 +252,7 @@ class QuestionsTest(Case):
         for turn in range(400):
             figures = generator.randrange(5)
             level = generator.randrange(figures + 1)
-            rectangle = drawn_rectangle(generator, figures)
+            rectangle = drawn_rectangle(generator, -3, 2 ** figures + 2)
             self.gives(naive.cells_met(figures, level, rectangle), cells_met, figures, level, rectangle)
         self.gives(4 ** 40, cells_met, 40, 40, ALL)
         self.gives(4, cells_met, 40, 1, (2 ** 39, 2 ** 39, 2 ** 39, 2 ** 39))
@@ -283,6 +275,7 @@ class QuestionsTest(Case):
     def reaches(self, figures, level, width, height):
         box = reaching(figures, level, width, height)
         self.assertEqual((box[2] - box[0], box[3] - box[1]), (width, height))
+        self.assertTrue(0 <= box[0] and box[2] < 2 ** figures and 0 <= box[1] and box[3] < 2 ** figures)
         self.assertEqual(cells_met(figures, level, box), most_met(figures, level, width, height))
         self.gives(box, reaching, figures, level, width, height)
 

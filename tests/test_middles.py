@@ -10,7 +10,7 @@ from planesplits import errors
 from planesplits.middles import (height, in_order, is_even, is_middle, middle, middle_counted, middle_nearest,
                                  middle_ranged, put, put_evenly, taken, useless_visits)
 from samples import (FAR, FAR_END, NO_MIDDLE_TREES, NO_POINTS, WRONG_MIDDLES, WRONG_POINT, WRONG_POINTS,
-                     WRONG_RECTANGLES, line, no_numbers, side_chain)
+                     WRONG_RECTANGLES, drawn_rectangle, line, no_numbers, side_chain)
 
 ALL = (None, None, None, None)
 LEFT = ((1, 2), ((4, 1), None, None), ((0, 7), None, None))
@@ -36,14 +36,6 @@ def drawn_trees(many, seed, side=5):
     for turn in range(many):
         points = drawn_points(generator, generator.randrange(14), side)
         yield generator, points, drawn_tree(generator, points)
-
-
-def drawn_rectangle(generator, side):
-    ends = []
-    for axis in (0, 1):
-        low, high = sorted([generator.randrange(-1, side + 1), generator.randrange(-1, side + 1)])
-        ends.append((low if generator.random() < 0.7 else None, high if generator.random() < 0.7 else None))
-    return (ends[0][0], ends[1][0], ends[0][1], ends[1][1])
 
 
 class MiddleTest(Case):
@@ -291,7 +283,7 @@ class SearchesTest(Case):
     def test_against_the_words(self):
         for generator, points, tree in drawn_trees(600, 10):
             for turn in range(5):
-                rectangle = drawn_rectangle(generator, 5)
+                rectangle = drawn_rectangle(generator, -1, 5)
                 self.gives(naive.ranged(tree, rectangle), middle_ranged, tree, rectangle)
                 self.gives(naive.counted(tree, rectangle), middle_counted, tree, rectangle)
                 point = (generator.randrange(-1, 6), generator.randrange(-1, 6))
@@ -310,7 +302,8 @@ class SearchesTest(Case):
         tree = middle([(-FAR, -FAR), (FAR, FAR), (0, 0)])
         self.gives(((FAR, FAR), [(0, 0), (FAR, FAR)]), middle_nearest, tree, (FAR, FAR))
         self.gives(([], [(0, 0), (FAR, FAR)]), middle_ranged, tree, (FAR_END, FAR_END, None, None))
-        self.gives((3, [(0, 0), (-FAR, -FAR), (FAR, FAR)]), middle_counted, tree, (-FAR_END, -FAR_END, FAR_END, FAR_END))
+        everything = (-FAR_END, -FAR_END, FAR_END, FAR_END)
+        self.gives((3, [(0, 0), (-FAR, -FAR), (FAR, FAR)]), middle_counted, tree, everything)
 
     def test_deep(self):
         chain = side_chain(500)
@@ -325,7 +318,7 @@ class SearchesTest(Case):
         self.gives(0, useless_visits, [(1, 1)], ALL)
         self.gives(1, useless_visits, ((1, 1),), (2, 2, 3, 3))
         for generator, points, tree in drawn_trees(300, 11):
-            rectangle = drawn_rectangle(generator, 5)
+            rectangle = drawn_rectangle(generator, -1, 5)
             wanted = naive.useless(naive.build(points), rectangle)
             self.gives(wanted, useless_visits, points, rectangle)
             self.gives(wanted, useless_visits, tuple(points), rectangle)

@@ -12,7 +12,7 @@ from planesplits import errors
 from planesplits.pictures import (area, best_shift, both, box_cells, box_picture, cells_of, colour_at, count_pictures,
                                   edge, either, is_picture, mirrored, opposite, painted, read_rows, regions, rows_of,
                                   shifted, turned_left, without)
-from samples import (FAR_END, MANY_FIGURES, NOTHING_WANTED, WRONG_FIGURES, WRONG_RECTANGLES, no_places, no_square_points,
+from samples import (FAR_END, MANY_FIGURES, NOTHING_WANTED, WRONG_FIGURES, WRONG_RECTANGLES, no_square_points,
                      wrong_numbers, wrong_pairs, wrong_places)
 
 ALL = (None, None, None, None)
@@ -34,11 +34,13 @@ NO_PICTURES = [((), value) for value in NOTHING_WANTED] + [
     ((), None), ((), 2), ((), -1), ((), MANY_FIGURES), ((), []), ((), ()), ((), (0,)), ((), (0, 1)), ((), (0, 1, 0)),
     ((), (0, 0, 0, 0)), ((), (1, 1, 1, 1)), ((), (0, 0, 0, 0, 1)), ((), [0, 0, 0, 1]), ((), ((0, 1, 0, 1),)),
     ((0,), (True, 1, 1, 1)), ((0,), (False, 0, 0, 0)), ((3,), (0, 0, 0, False)), ((3,), (1, 1, 1, True)),
-    ((1,), (0, True, 0, 0)), ((0,), (0j, 0, 0, 0)), ((2,), (1, 1, 1 + 0j, 1)), ((2,), (0, 1, 2, 3)), ((1,), (1, -1, 0, 0)),
+    ((1,), (0, True, 0, 0)), ((0,), (0j, 0, 0, 0)), ((2,), (1, 1, 1 + 0j, 1)), ((2,), (0, 1, 2, 3)),
+    ((1,), (1, -1, 0, 0)),
     ((0,), ("0", 0, 0, 0)), ((3,), (0, 0, 0, None)), ((1,), (0, [0, 0, 0, 1], 0, 0)), ((0,), ((0, 0, 0, 0), 1, 1, 1)),
     ((2,), (0, (0, 1, 0, 0), (1, 1, 1, 1), None)), ((1,), (0, (), [], 0)), ((1, 3), (0, (0, 1, 0, 2), [], 0)),
     ((1, 3, 3), (0, (0, 0, 1, (1, 0, 0, (0, 0, 0, 1))), 1, 0)), ((1, 3, 0), (0, (0, 0, 1, ((), 0, 0, 1)), 1, 0)),
-    ((1, 3), (0, (0, 0, 1, (1, 1, 1, 1)), 1, 0)), ((3, 0), (0, 0, 0, ([], 0, 0, 0))), ((0, 1, 3), (DEEP, 1, 5, 5)), ((2,), (DEEP[1], 1, 5, 5)),
+    ((1, 3), (0, (0, 0, 1, (1, 1, 1, 1)), 1, 0)), ((3, 0), (0, 0, 0, ([], 0, 0, 0))), ((0, 1, 3), (DEEP, 1, 5, 5)),
+    ((2,), (DEEP[1], 1, 5, 5)),
 ]
 WRONG_PICTURES = wrong_pairs(NO_PICTURES, errors.InvalidTree, "path")
 
@@ -207,8 +209,8 @@ class TwoTest(Case):
         for figures, black, one in rows:
             for figures2, black2, other in rows[:20]:
                 if figures2 == figures:
-                    self.assertEqual(area(figures, either(figures, one, other)),
-                                     area(figures, one) + area(figures, other) - area(figures, both(figures, one, other)))
+                    joined = area(figures, one) + area(figures, other) - area(figures, both(figures, one, other))
+                    self.assertEqual(area(figures, either(figures, one, other)), joined)
 
     def test_too_large(self):
         board = checked(5)
@@ -288,13 +290,26 @@ class MovedTest(Case):
         self.gives((0, 0, 0, 1), shifted, 40, (1, 0, 0, 0), 2 ** 39, 2 ** 39)
         self.gives(painted(40, [(LAST, 0)]), shifted, 40, 1, LAST, -LAST)
         places = [(k * 2 ** 35, k * 3 * 2 ** 33) for k in range(20)]
-        self.gives(painted(40, [(x + 12345, y + 99999) for x, y in places]), shifted, 40, painted(40, places), 12345, 99999)
+        moved = painted(40, [(x + 12345, y + 99999) for x, y in places])
+        self.gives(moved, shifted, 40, painted(40, places), 12345, 99999)
         start = time.perf_counter()
         for dx, dy in ((1, 0), (0, -1), (1, 1), (-7, 2 ** 38 + 1), (2 ** 39 - 1, 1 - 2 ** 39)):
             self.too_large(4000, shifted, 40, (1, 0, 0, (1, 0, 0, 1)), dx, dy)
         # What comes in along an edge is white, so a full picture has as many nodes as the edge is long.
         self.too_large(4000, shifted, 40, 1, 1, 0)
         self.assertLess(time.perf_counter() - start, 2)
+
+    def test_the_same_picture_of_a_greater_square(self):
+        generator = random.Random(15)
+        for figures, black, picture in drawn(100, 16):
+            wide = 2 ** (40 - figures)
+            side = 2 ** figures
+            for turn in range(3):
+                dx, dy = generator.randrange(-side, side + 1), generator.randrange(-side, side + 1)
+                self.gives(shifted(figures, picture, dx, dy), shifted, 40, picture, dx * wide, dy * wide)
+            self.gives(area(figures, picture) * wide * wide, area, 40, picture)
+            self.gives(edge(figures, picture) * wide, edge, 40, picture)
+            self.gives(regions(figures, picture), regions, 40, picture)
 
     def test_shifted_at_the_limit(self):
         # In a row of 2 ** k places the last ones lie in 2 ** (k + 1) - 2 cells that are split.

@@ -6,7 +6,6 @@ import unittest
 
 import naive
 from asking import Case
-from planesplits import errors
 from planesplits.searches import counted, nearest, ranged
 from samples import (FAR, FAR_END, LEAF, NO_POINTS, NO_RECTANGLES, NO_TREES, STEPS, TREE, line, long_chain, node)
 

@@ -1,6 +1,5 @@
 """Tests of the stretches of codes, and of the search by codes [6.4], [6.5]."""
 
-import itertools
 import random
 import time
 import unittest
@@ -35,7 +34,8 @@ def few_places(generator, figures, most):
     for axis in (0, 1):
         length = generator.randrange(min(most, 2 ** figures))
         step = 2 ** generator.randrange(figures + 1)
-        low = generator.randrange(2 ** figures) // step * step - generator.choice([0, 1, length, generator.randrange(9)])
+        low = generator.randrange(2 ** figures) // step * step
+        low -= generator.choice([0, 1, length, generator.randrange(9)])
         low = max(0, min(low, 2 ** figures - 1 - length))
         ends.append((low, low + length))
     return (ends[0][0], ends[1][0], ends[0][1], ends[1][1])

@@ -226,8 +226,8 @@ class JournalTest(Case):
         self.fails_at_row(1, "square 3 1\n ")
         wrong_first = ["square 3", "square", "square 3 1 1", "square  3 1", "square 3 1 ", " square 3 1", "square 41 1",
                        "square -1 1", "square 3 0", "square 3 501", "square 03 1", "square 3 01", "square 3 +1",
-                       "square 3 -1", "square 3 x", "Square 3 1", "square\t3 1", "square 3,1", "put 1 1", "square 3 1.0",
-                       "square -0 1", "square 3 " + MANY_FIGURES, "square " + MANY_FIGURES + " 1", "3 1", "square 3 1\r"]
+                       "square 3 -1", "square 3 x", "Square 3 1", "square\t3 1", "square 3,1", "put 1 1", "3 1",
+                       "square 3 1.0", "square -0 1", "square 3 " + MANY_FIGURES, "square " + MANY_FIGURES + " 1"]
         for row in wrong_first:
             self.fails_at_row(0, journal([row] + ROWS[1:]))
             self.fails_at_row(0, journal([row, "put 1 1", "nothing"]))
@@ -236,9 +236,9 @@ class JournalTest(Case):
                        "put -1 1", "put 01 1", "put 1 00", "put 1 -0", "put 1 x", "put x 1", "Put 1 1", "put 1\t1",
                        "put 6 7", "put " + MANY_FIGURES + " 1", "put 1 " + MANY_FIGURES, "put 1 -" + MANY_FIGURES,
                        "take 1 1", "take 6", "take 6 7 6", "take", "take 8 8", "take 06 7", "move 6 7", "move 6 7 1",
-                       "move 6 7 1 1 1", "move 6 7 6 7", "move 1 1 2 2", "move 6 7 0 8", "move 8 7 0 0", "move 6 7 0 02",
-                       "move", "undo", "square 3 1", "square", "6 7", "put (1, 1)", "put 1 1;", "put\n", "put 1 1 -",
-                       "put -- 1", "put - 1", "put 1- 1", "put 1 1\r", "put +1 1", "put 1_0 1"]
+                       "move 6 7 1 1 1", "move 6 7 6 7", "move 1 1 2 2", "move 6 7 0 8", "move 8 7 0 0", "move",
+                       "move 6 7 0 02", "undo", "square 3 1", "square", "6 7", "put (1, 1)", "put 1 1;", "put\n", "put 1 1 -",
+                       "put -- 1", "put - 1", "put 1- 1", "put +1 1", "put 1_0 1"]
         for row in wrong_deeds:
             self.fails_at_row(2, journal(ROWS[:2] + [row]))
             self.fails_at_row(2, journal(ROWS[:2] + [row] + ROWS[2:]))
@@ -253,8 +253,9 @@ class JournalTest(Case):
                 # All rows before the wrong one are right, and with it they are not.
                 rows = text.split("\n")
                 self.assertTrue(0 <= error.place < len(rows))
+                right_rows = journal(rows[:error.place])
                 if error.place > 0:
-                    self.assertEqual(journal_text(read_journal(journal(rows[:error.place]))), journal(rows[:error.place]))
+                    self.assertEqual(journal_text(read_journal(right_rows)), right_rows)
                 if error.place < len(rows) - 1:
                     self.fails_at_row(error.place, journal(rows[:error.place + 1]))
             else:
