@@ -70,5 +70,5 @@ def check_rectangle(value):
 
 def check_number(value, least, most, name):
     """Raise InvalidNumber with a name for what is no integer from `least` to `most`."""
-    if not is_integer(value) or not least <= value <= most:
+    if not isinstance(value, int) or isinstance(value, bool) or not least <= value <= most:
         raise InvalidNumber(name)

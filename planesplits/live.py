@@ -1,17 +1,14 @@
-"""Indexes: points of a square, kept side by side in a quarter tree, a middle tree and a cell tree.
-
-The trees are made anew along one way only, so those of earlier states stay as they were, and are kept for `undo`.
-"""
+"""Indexes: points of a square, kept side by side in a quarter tree, a middle tree and a cell tree."""
 
 from planesplits.cells import cells_over, rows_of_leaves
 from planesplits.checks import MOST_POINTS, check_number, check_point, check_rectangle
 from planesplits.errors import AlreadyThere, InvalidPoint, NotThere, TooLarge
-from planesplits.growth import grown
+from planesplits.history import History
 from planesplits.hunts import sides_nearest, sides_ranged
 from planesplits.points import square_distance
-from planesplits.quarters import put_below, reading, way_down
+from planesplits.quarters import reading
 from planesplits.searches import parts_nearest, parts_ranged
-from planesplits.sides import side_points, way_by_sides, with_point, without_top
+from planesplits.sides import side_points
 from planesplits.squares import box_of, check_cap, check_figures, four_cells, is_place, meets_box
 
 
@@ -19,20 +16,6 @@ def check_square_point(value, figures):
     """Raise InvalidPoint for what is no point of a square."""
     if not is_place(value, figures):
         raise InvalidPoint(value)
-
-
-def put_in_both(trees, point):
-    """Return a quarter tree and a middle tree with a point more."""
-    above, path, node = way_down(trees[0], point)
-    above2, node2 = way_by_sides(trees[1], point)
-    return put_below(above, path, grown([point])), with_point(above2, point)
-
-
-def taken_from_both(trees, point):
-    """Return a quarter tree and a middle tree without a point."""
-    above, path, node = way_down(trees[0], point)
-    above2, node2 = way_by_sides(trees[1], point)
-    return put_below(above, path, grown(reading(node)[1:])), without_top(above2, node2)
 
 
 def count_cells_visited(figures, split, rectangle):
@@ -53,16 +36,19 @@ class Index:
         check_cap(cap)
         self.figures = figures
         self.cap = cap
-        # The points that are there, as keys; all deeds that stand; the trees ahead of each deed, and those of now.
+        # The points that are there, as keys.
         self.there = {}
-        self.done = []
-        self.states = [(None, None)]
+        self.history = History()
 
     def __eq__(self, other):
+        if not isinstance(other, Index) or self.figures != other.figures or self.cap != other.cap:
+            return False
+        if self.history.done == other.history.done:
+            return True
+        quarter, middle = self.history.pair_told()
+        other_quarter, other_middle = other.history.pair_told()
         # Trees may be too deep to be compared; but with the same reading order they are the same.
-        return (isinstance(other, Index) and self.figures == other.figures and self.cap == other.cap
-                and reading(self.quarter()) == reading(other.quarter())
-                and side_points(self.middle()) == side_points(other.middle()))
+        return reading(quarter) == reading(other_quarter) and side_points(middle) == side_points(other_middle)
 
     def put(self, point):
         """Put a point in."""
@@ -72,8 +58,7 @@ class Index:
         if len(self.there) == MOST_POINTS:
             raise TooLarge(MOST_POINTS)
         self.there[point] = True
-        self.done.append(("put", point))
-        self.states.append(put_in_both(self.states[-1], point))
+        self.history.put(point)
 
     def take(self, point):
         """Take a point out."""
@@ -81,8 +66,7 @@ class Index:
         if point not in self.there:
             raise NotThere(point)
         del self.there[point]
-        self.done.append(("take", point))
-        self.states.append(taken_from_both(self.states[-1], point))
+        self.history.take(point)
 
     def move(self, point, place):
         """Take a point out and put another one in, as one deed."""
@@ -94,8 +78,7 @@ class Index:
             raise AlreadyThere(place)
         del self.there[point]
         self.there[place] = True
-        self.done.append(("move", point, place))
-        self.states.append(put_in_both(taken_from_both(self.states[-1], point), place))
+        self.history.move(point, place)
 
     def points(self):
         """Return the ascending list of the points."""
@@ -103,11 +86,11 @@ class Index:
 
     def quarter(self):
         """Return the quarter tree."""
-        return self.states[-1][0]
+        return self.history.pair_now()[0]
 
     def middle(self):
         """Return the middle tree."""
-        return self.states[-1][1]
+        return self.history.pair_now()[1]
 
     def leaves(self):
         """Return the list of tuples (leaf, list of its points ascending) of the cell tree in reading order."""
@@ -115,24 +98,26 @@ class Index:
 
     def deeds(self):
         """Return the list of the deeds that stand."""
-        return list(self.done)
+        return list(self.history.done)
 
     def undo(self):
         """Take back the last deed; return whether there is one."""
-        if not self.done:
+        if not self.history.done:
             return False
-        self.done.pop()
-        self.states.pop()
-        self.there = {point: True for point in side_points(self.middle())}
+        word, *points = self.history.undone()
+        # The last one of its points came by a put or a move, the first one went by a take or a move.
+        if word != "take":
+            del self.there[points[-1]]
+        if word != "put":
+            self.there[points[0]] = True
         return True
 
     def at(self, number):
         """Return a new index on which only the first deeds are done, so many."""
-        check_number(number, 0, len(self.done), "number")
+        check_number(number, 0, len(self.history.done), "number")
         index = Index(self.figures, self.cap)
-        index.done = self.done[:number]
-        index.states = self.states[:number + 1]
-        index.there = {point: True for point in side_points(index.middle())}
+        index.history = self.history.begun(number)
+        index.there = {point: True for point in index.history.spots_now()}
         return index
 
     def search(self, rectangle):

@@ -7,7 +7,8 @@ from planesplits.borders import count_regions, seams_of, sides_of_spots
 from planesplits.checks import MOST_POINTS, check_number, check_rectangle
 from planesplits.errors import InvalidPoints, InvalidText, Mismatch, TooLarge
 from planesplits.fitting import least_moved
-from planesplits.squares import box_of, check_figures, check_place, is_place, shared_out
+from planesplits.squares import MOST_FIGURES, box_of, check_figures, check_place, is_place, shared_out
+from planesplits.tallies import count_deeper, count_free, packed_row
 from planesplits.tiles import (
     MOST_NODES, check_picture, common, counts_of, inverted, made, moved_by, noted, picture_fault, placed_anew,
     small_enough,
@@ -16,6 +17,8 @@ from planesplits.tiles import (
 MOST_FITTED = 4
 MOST_WRITTEN = 6
 MOST_SPLIT = 60
+# For fewer tuples it is quicker to count figure by figure, and for twice as many if there are fewer figures.
+MANY_SPLIT = 10
 # The parts of the new picture, by their numbers in the old one.
 TURNED_LEFT = (2, 0, 3, 1)
 MIRRORED = (1, 0, 3, 2)
@@ -256,17 +259,15 @@ def read_rows(rows):
 
 def count_pictures(figures, split):
     """Return how many pictures of a square have just so many nodes that are tuples."""
-    check_figures(figures)
+    check_number(figures, 0, MOST_FIGURES, "figures")
     check_number(split, 0, MOST_SPLIT, "split")
-    # The numbers of pictures with 0, 1, .. tuples are the figures of one number, to a base that is a power of two.
-    # Fewer than 2 ** (4 * n) shapes have n tuples, and they have 3 * n + 1 parts with a colour; so a figure, also of a
-    # product, needs less than these bits.
-    bits = 7 * split + 9
-    mask = (1 << bits * (split + 1)) - 1
-    counts = 2
-    # No picture is deeper than it has tuples.
-    for level in range(min(figures, split)):
-        two = counts * counts & mask
-        four = two * two & mask
-        counts = 2 + (four - 2 << bits) & mask
-    return counts >> bits * split
+    if split >= MANY_SPLIT:
+        # A square with two figures has no more than five cells that can be split.
+        if figures < 3:
+            return 0
+        if split <= figures:
+            return count_free(split)
+        if 2 * MANY_SPLIT <= split <= 2 * figures:
+            return count_free(split) - count_deeper(figures, split)
+    row, bits = packed_row(figures, split)
+    return row >> bits * split

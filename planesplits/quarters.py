@@ -10,6 +10,7 @@ from planesplits.growth import grown
 from planesplits.points import LAST_PART_FIRST, part_of, y_key
 
 MOST_NODES = 500
+NO_PARTS = (None, None, None, None)
 # Keys farther out than those of all points.
 ALL_KEYS = ((-10 ** 31, 0), (-10 ** 31, 0), (10 ** 31, 0), (10 ** 31, 0))
 
@@ -98,9 +99,25 @@ def way_down(tree, point):
 
 def put_below(above, path, tree):
     """Return the whole tree in which a tree stands below some nodes, at the end of a path."""
-    for (point, parts), part in reversed(list(zip(above, path))):
-        tree = (point, parts[:part] + (tree,) + parts[part + 1:])
+    for (point, parts), part in zip(above[::-1], path[::-1]):
+        row = list(parts)
+        row[part] = tree
+        tree = (point, tuple(row))
     return tree
+
+
+def with_leaf(above, path, point):
+    """Return the whole tree in which a point without parts stands below some nodes, at the end of a path."""
+    return put_below(above, path, (point, NO_PARTS))
+
+
+def without_root(above, path, node):
+    """Return the whole tree without the point of a node at the end of a path, the rest of its part built anew."""
+    parts = [part for part in node[1] if part is not None]
+    if len(parts) > 1:
+        return put_below(above, path, grown(reading(node)[1:]))
+    # A part that is built of its points in reading order stays as it is.
+    return put_below(above, path, parts[0] if parts else None)
 
 
 def level_counts(tree):
@@ -131,7 +148,7 @@ def inserted(tree, point):
     above, path, node = way_down(tree, point)
     if node is not None:
         raise AlreadyThere(point)
-    return put_below(above, path, grown([point]))
+    return with_leaf(above, path, point)
 
 
 def removed(tree, point):
@@ -141,7 +158,7 @@ def removed(tree, point):
     above, path, node = way_down(tree, point)
     if node is None:
         raise NotThere(point)
-    return put_below(above, path, grown(reading(node)[1:]))
+    return without_root(above, path, node)
 
 
 def path_to(tree, point):

@@ -70,10 +70,13 @@ def side_nodes(tree):
     pile = [tree]
     while pile:
         node = pile.pop()
-        if node is not None:
+        while node is not None:
             nodes.append(node)
-            pile.append(node[2])
-            pile.append(node[1])
+            point, low, high = node
+            # The low side is gone into at once, with all below it.
+            if high is not None:
+                pile.append(high)
+            node = low
     return nodes
 
 
@@ -92,19 +95,19 @@ def count_levels(tree):
     return levels
 
 
-def is_high(axis, root, point):
-    """Return whether a point lies on the high side of a root that splits by an axis."""
-    return y_key(point) > y_key(root) if axis == 1 else point > root
-
-
 def way_by_sides(tree, point):
     """Return the list of tuples (node, side) above the end of the way to a point, and what is there."""
     above = []
     node = tree
+    axis = 0
+    key = y_key(point)
     while node is not None and node[0] != point:
-        side = 1 if is_high(len(above) & 1, node[0], point) else 0
+        x, y = node[0]
+        is_high = key > (y, x) if axis == 1 else point > node[0]
+        side = 1 if is_high else 0
         above.append((node, side))
         node = node[1 + side]
+        axis = 1 - axis
     return above, node
 
 

@@ -19,18 +19,18 @@ MOST_PLACED = 300
 LOW_END = -1000000
 HIGH_END = 1000000
 FARTHEST = 1000000000
-# For each state on an axis the ways in which a split can lie: whether it makes the root useless, and the states of the
-# low and the high side. A side that is not visited has the state 4.
+# The state of a side that is not visited.
 NOT_VISITED = 4
-WAYS = (
-    ((0, 0, 0),),
-    ((0, 1, 0), (1, 4, 1)),
-    ((0, 0, 2), (1, 2, 4)),
-    ((0, 1, 2), (1, 4, 3), (1, 3, 4)),
+# For quarter trees a number stands at 4 * x + y in a row, for the states x and y: the rows of None and of a leaf, and
+# what a root with just one part, with each number, adds to the row of this part.
+NO_ROW = (0, 0, 0, 0, 0, 0, 0, 0, 0, 0, 0, 0, 0, 0, 0, 0)
+LEAF_ROW = (0, 1, 1, 1, 1, 1, 1, 1, 1, 1, 1, 1, 1, 1, 1, 1)
+ADDED_ROWS = (
+    (0, 0, 1, 1, 0, 0, 1, 1, 1, 1, 1, 1, 1, 1, 1, 1),
+    (0, 0, 1, 1, 1, 1, 1, 1, 0, 0, 1, 1, 1, 1, 1, 1),
+    (0, 1, 0, 1, 0, 1, 0, 1, 1, 1, 1, 1, 1, 1, 1, 1),
+    (0, 1, 0, 1, 1, 1, 1, 1, 0, 1, 0, 1, 1, 1, 1, 1),
 )
-# For quarter trees rows have 25 numbers, at 5 * x + y for the states x and y, as parts that are not visited count, too.
-NO_PART = (0, 0, 0, 0, 0, 0, 0, 0, 0, 0, 0, 0, 0, 0, 0, 0, 0, 0, 0, 0, 0, 0, 0, 0, 0)
-LEAF_ROW = (0, 1, 1, 1, 0, 1, 1, 1, 1, 0, 1, 1, 1, 1, 0, 1, 1, 1, 1, 0, 0, 0, 0, 0, 0)
 
 
 def check_state(value, name):
@@ -172,18 +172,36 @@ def worst_counted(many, x, y):
     return worst_case(many, x, y, True)
 
 
-def ways_of_quarters():
-    """Return a list of tuples (place in a row, ways): a way is 1 for a useless root, and the places of four parts."""
-    table = []
-    for x in range(4):
-        for y in range(4):
-            ways = []
-            for useless_x, low_x, high_x in WAYS[x]:
-                for useless_y, low_y, high_y in WAYS[y]:
-                    places = [5 * part_x + part_y for part_y in (low_y, high_y) for part_x in (low_x, high_x)]
-                    ways.append((useless_x | useless_y, places[0], places[1], places[2], places[3]))
-            table.append((5 * x + y, ways))
-    return table
+def row_above(row0, row1, row2, row3):
+    """Return the row of a root for the rows of its four parts.
+
+    The numbers of the parts 0 to 3 are called a, b, c and d, with the states on both axes: a31 is that of part 0 for
+    "both" on the x-axis and "low" on the y-axis. For each pair of states of the root the ways are gone through: the
+    split lies between the ends on both axes, on one, or on none; a part that is not visited does not stand there.
+    """
+    none, a01, a02, a03, a10, a11, a12, a13, a20, a21, a22, a23, a30, a31, a32, a33 = row0
+    none, b01, b02, b03, b10, b11, b12, b13, b20, b21, b22, b23, b30, b31, b32, b33 = row1
+    none, c01, c02, c03, c10, c11, c12, c13, c20, c21, c22, c23, c30, c31, c32, c33 = row2
+    none, d01, d02, d03, d10, d11, d12, d13, d20, d21, d22, d23, d30, d31, d32, d33 = row3
+    return (
+        none,
+        max(a01 + b01, 1 + c01 + d01),
+        max(c02 + d02, 1 + a02 + b02),
+        max(a01 + b01 + c02 + d02, 1 + c03 + d03, 1 + a03 + b03),
+        max(a10 + c10, 1 + b10 + d10),
+        max(a11 + b01 + c10, 1 + b11 + d10, 1 + c11 + d01, 1 + d11),
+        max(a10 + c12 + d02, 1 + b10 + d12, 1 + a12 + b02, 1 + b12),
+        max(a11 + b01 + c12 + d02, 1 + b11 + d12, 1 + c13 + d03, 1 + a13 + b03, 1 + d13, 1 + b13),
+        max(b20 + d20, 1 + a20 + c20),
+        max(a01 + b21 + d20, 1 + a21 + c20, 1 + c01 + d21, 1 + c21),
+        max(b20 + c02 + d22, 1 + a20 + c22, 1 + a02 + b22, 1 + a22),
+        max(a01 + b21 + c02 + d22, 1 + a21 + c22, 1 + c03 + d23, 1 + a03 + b23, 1 + c23, 1 + a23),
+        max(a10 + c10 + b20 + d20, 1 + b30 + d30, 1 + a30 + c30),
+        max(a11 + b21 + c10 + d20, 1 + b31 + d30, 1 + a31 + c30, 1 + c11 + d21, 1 + d31, 1 + c31),
+        max(a10 + b20 + c12 + d22, 1 + b30 + d32, 1 + a30 + c32, 1 + a12 + b22, 1 + b32, 1 + a32),
+        max(a11 + b21 + c12 + d22, 1 + b31 + d32, 1 + a31 + c32, 1 + c13 + d23, 1 + a13 + b23,
+            1 + a33, 1 + b33, 1 + c33, 1 + d33),
+    )
 
 
 def most_in_quarter(tree, x, y):
@@ -191,18 +209,18 @@ def most_in_quarter(tree, x, y):
     check_quarter(tree)
     check_state(x, "x")
     check_state(y, "y")
-    table = ways_of_quarters()
-    pile = []
+    pile = [NO_ROW]
     # Backwards a node comes just behind its parts, the first one last: so theirs are the last rows on the pile.
     for point, parts in nodes_of(tree)[::-1]:
-        rows = [NO_PART if part is None else pile.pop() for part in parts]
-        if rows == [NO_PART] * 4:
-            pile.append(LEAF_ROW)
-            continue
-        row0, row1, row2, row3 = rows
-        row = [0] * 25
-        for at, ways in table:
-            row[at] = max([useless + row0[part0] + row1[part1] + row2[part2] + row3[part3]
-                           for useless, part0, part1, part2, part3 in ways])
+        numbers = [number for number in range(4) if parts[number] is not None]
+        if not numbers:
+            row = LEAF_ROW
+        elif len(numbers) == 1:
+            # Where there is an end on the side away from the part, the root can lie beyond it, with the part in the
+            # same states. Otherwise the part, in its states, counts no less than a root without it.
+            row = [part + added for part, added in zip(pile.pop(), ADDED_ROWS[numbers[0]])]
+        else:
+            row0, row1, row2, row3 = [NO_ROW if part is None else pile.pop() for part in parts]
+            row = row_above(row0, row1, row2, row3)
         pile.append(row)
-    return pile.pop()[5 * STATES[x] + STATES[y]] if pile else 0
+    return pile.pop()[4 * STATES[x] + STATES[y]]

@@ -119,15 +119,16 @@ def rows(figures, black):
     return ["".join(["#" if (x, y) in black else "." for x in side]) for y in side]
 
 
-def count_pictures(figures, split, known):
-    """Return how many pictures have so many tuples, by choosing how many each of the four parts has."""
-    if split == 0:
-        return 2
-    if figures == 0:
-        return 0
-    if (figures, split) not in known:
-        one = [count_pictures(figures - 1, number, known) for number in range(split)]
+def counts_of_pictures(figures, split):
+    """Return lists of how many pictures have 0, 1, .. tuples, for 0, 1, .. figures, up to these numbers.
+
+    One figure after the other, all ways are added up in which four pictures have one tuple less together.
+    """
+    rows = [[2] + [0] * split]
+    for level in range(figures):
+        one = rows[-1]
         two = [sum([one[k] * one[total - k] for k in range(total + 1)]) for total in range(split)]
-        four = sum([two[k] * two[split - 1 - k] for k in range(split)])
-        known[(figures, split)] = four - (2 if split == 1 else 0)
-    return known[(figures, split)]
+        four = [sum([two[k] * two[total - k] for k in range(total + 1)]) for total in range(split)]
+        # Four times 0 and four times 1 are no tuples.
+        rows.append([2, four[0] - 2] + four[1:])
+    return rows

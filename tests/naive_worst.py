@@ -91,20 +91,28 @@ def useless_in_quarter(tree, rectangle):
     return len(visited) - len(found)
 
 
-def in_quarter(tree, x, y):
-    """Return the greatest number for all quarter trees with the shape of a tree, by the words of the document."""
+def in_quarter(tree, x, y, path=(), known=None):
+    """Return the greatest number for all quarter trees with the shape of a tree, by the words of the document.
+
+    `known` holds what is known already, by paths and states.
+    """
+    known = {} if known is None else known
     if tree is None:
         return 0
-    best = 0
-    for split_x in splits(x):
-        for split_y in splits(y):
-            number = 0 if split_x[0] == "between" and split_y[0] == "between" else 1
-            for part in range(4):
-                part_x, part_y = split_x[1 + part % 2], split_y[1 + part // 2]
-                if part_x is not None and part_y is not None:
-                    number += in_quarter(tree[1][part], part_x, part_y)
-            best = max(best, number)
-    return best
+    if (path, x, y) not in known:
+        known[(path, x, y)] = max([from_parts(tree, split_x, split_y, path, known)
+                                   for split_x in splits(x) for split_y in splits(y)])
+    return known[(path, x, y)]
+
+
+def from_parts(tree, split_x, split_y, path, known):
+    """Return the number for one place of the split of the root on both axes."""
+    number = 0 if split_x[0] == "between" and split_y[0] == "between" else 1
+    for part in range(4):
+        part_x, part_y = split_x[1 + part % 2], split_y[1 + part // 2]
+        if part_x is not None and part_y is not None:
+            number += in_quarter(tree[1][part], part_x, part_y, path + (part,), known)
+    return number
 
 
 def splits(state):

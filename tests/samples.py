@@ -94,6 +94,21 @@ def stairs(many, step_x, step_y):
     return [((k + 1) // 2 * step_x, k // 2 * step_y) for k in range(many)]
 
 
+def from_both_ends(points):
+    """Return the first, the last, the second, the last but one, and so on."""
+    rows = []
+    for k in range((len(points) + 1) // 2):
+        rows.append(points[k])
+        if len(rows) < len(points):
+            rows.append(points[-1 - k])
+    return rows
+
+
+def in_two_lines(many):
+    """Return points that go away from (0, 0) on both sides by turns, so that the tree has two long arms."""
+    return [((k + 1) // 2, (k + 1) // 2) if k % 2 == 1 else (-k // 2, -k // 2) for k in range(many)]
+
+
 def chain(places):
     """Return the nested tuples of nodes for tuples (point, part), its part of the node before it."""
     tree = None

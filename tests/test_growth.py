@@ -1,35 +1,21 @@
-"""Tests of the two ways in which points grow to a tree [2.1], [2.2], and of the time that many points take."""
+"""Tests of the ways in which points grow to trees [2.1], [2.2], [8.3], and of the time that many points take."""
 
 import random
 import time
 import unittest
 
 import naive
+import naive_middles
 from planesplits import growth
 from planesplits.quarters import built, removed
-from samples import FAR, line, stairs
+from samples import FAR, from_both_ends, in_two_lines, line, stairs
 
 SIZES = [0, 1, 2, 3, 8, 30, 31, 32, 33, 60, 200, 250, 500]
 DRAWN = random.Random(5)
 
 
-def from_both_ends(points):
-    """Return the first, the last, the second, the last but one, and so on."""
-    rows = []
-    for k in range((len(points) + 1) // 2):
-        rows.append(points[k])
-        if len(rows) < len(points):
-            rows.append(points[-1 - k])
-    return rows
-
-
 def drawn(many, width, height):
     return DRAWN.sample([(x, y) for x in range(width) for y in range(height)], many)
-
-
-def in_two_lines(many):
-    """Return points that go away from (0, 0) on both sides by turns, so that the tree has two long arms."""
-    return [((k + 1) // 2, (k + 1) // 2) if k % 2 == 1 else (-k // 2, -k // 2) for k in range(many)]
 
 
 def orders(many):
@@ -92,6 +78,39 @@ class BothWaysTest(unittest.TestCase):
             points = line(many, 1, -1)
             built(points)
             self.assertEqual(points, line(many, 1, -1))
+
+
+class SidesTest(unittest.TestCase):
+
+    def test_against_putting(self):
+        for many in (0, 1, 2, 3, 8, 31, 32, 33, 60):
+            for name, points in orders(many):
+                tree = None
+                for point in points:
+                    tree = naive_middles.put(tree, point)
+                rows = growth.side_rows_by_masks(points)
+                self.assertEqual(growth.middle_of_rows(points, rows, many), tree, (name, many))
+                self.assertEqual(growth.side_rows_by_masks(tuple(points)), rows)
+
+    def test_rows(self):
+        self.assertEqual(growth.side_rows_by_masks([]), [])
+        self.assertEqual(growth.side_rows_by_masks([(3, 4)]), [[1, 1]])
+        self.assertEqual(growth.side_rows_by_masks([(5, 5), (9, 9), (7, 2), (8, 8), (0, 9)]),
+                         [[4, 1], [2, 5], [5, 3], [5, 5], [5, 5]])
+
+
+class FirstTest(unittest.TestCase):
+
+    def test_rows_tell_the_trees_of_the_first_points(self):
+        for many in (0, 1, 2, 33, 60):
+            for name, points in orders(many):
+                rows, side_rows = growth.rows_by_masks(points), growth.side_rows_by_masks(points)
+                middle = None
+                for number in range(many + 1):
+                    quarter = growth.quarter_of_rows(points, rows, number)
+                    self.assertEqual(quarter, growth.grown(points[:number]), (name, many, number))
+                    self.assertEqual(growth.middle_of_rows(points, side_rows, number), middle, (name, many, number))
+                    middle = naive_middles.put(middle, points[number]) if number < many else None
 
 
 class RemovedTest(unittest.TestCase):

@@ -1,5 +1,6 @@
 """Tests of the greatest numbers of visits [10.1] to [10.4]."""
 
+import itertools
 import random
 import time
 import unittest
@@ -11,9 +12,11 @@ from asking import Case
 from naive_worst import STATES
 from planesplits import errors
 from planesplits.middles import middle, middle_counted, useless_visits
+from planesplits.numbers import shape_points
 from planesplits.quarters import built, is_quarter
 from planesplits.worst import most_counted, most_in_quarter, most_useless, worst_counted, worst_useless
-from samples import NOTHING_WANTED, TREE, WRONG_TREES, line, long_chain, wrong, wrong_numbers
+from samples import (LEAF, NOTHING_WANTED, TREE, WRONG_TREES, from_both_ends, in_two_lines, line, long_chain, stairs,
+                     wrong, wrong_numbers)
 
 PAIRS = [(x, y) for x in STATES for y in STATES]
 NO_STATES = NOTHING_WANTED + [None, 0, 1, 3, "", "Low", "LOW", "lows", " low", "low ", "non", "None", "all", b"low",
@@ -164,6 +167,33 @@ class QuarterTest(Case):
             tree = naive.build(points)
             for x, y in PAIRS:
                 self.gives(naive_worst.in_quarter(tree, x, y), most_in_quarter, tree, x, y)
+
+    def test_larger_ones_against_the_words(self):
+        generator = random.Random(4)
+        for turn in range(60):
+            side = generator.choice([3, 7, 12, 40])
+            places = [(x, y) for x in range(side) for y in range(side)]
+            self.against_the_words(built(generator.sample(places, generator.randrange(min(61, len(places) + 1)))))
+
+    def test_lines_against_the_words(self):
+        for many in (1, 2, 3, 7, 30, 60):
+            for step_x, step_y in ((1, 1), (1, -1), (0, 1), (1, 0)):
+                points = line(many, step_x, step_y)
+                for order in (points, points[::-1], from_both_ends(points)):
+                    self.against_the_words(built(order))
+            self.against_the_words(built(in_two_lines(many)))
+            for step_x, step_y in ((1, 1), (1, -1), (-1, 1), (-1, -1)):
+                self.against_the_words(built(stairs(many, step_x, step_y)))
+
+    def test_each_form_of_root_against_the_words(self):
+        chain = (None, LEAF, None, (LEAF, None, None, None))
+        for shape in itertools.product([None, LEAF, chain], repeat=4):
+            self.against_the_words(built(shape_points(shape)))
+
+    def against_the_words(self, tree):
+        known = {}
+        for x, y in PAIRS:
+            self.assertEqual(most_in_quarter(tree, x, y), naive_worst.in_quarter(tree, x, y, (), known), (tree, x, y))
 
     def test_against_all_small_trees(self):
         for many in range(4):
